@@ -1,0 +1,1 @@
+"""Errors, marks, rows, fractions and spans: what every other part uses."""

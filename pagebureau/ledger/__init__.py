@@ -1,0 +1,1 @@
+"""The ledger: pages of lines, and the lots of their balances."""

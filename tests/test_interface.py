@@ -1,0 +1,81 @@
+"""The names and arguments of the interface stand where the document lists them."""
+
+import ast
+import unittest
+from pathlib import Path
+
+ROOT = Path(__file__).resolve().parent.parent / "pagebureau"
+
+# For each file its functions and classes, with their arguments as they are called.
+FUNCTIONS = {
+    "base/rows.py": {"is_row": "thing", "row_text": "row"},
+    "ledger/lots.py": {"parting_links": "first, second"},
+}
+SELF, TWO = "self", "self, other"
+METHODS = {
+    "base/marks.py": {"Marks": {
+        "__init__": "self, letters=''", "read": "cls, text", "text": SELF, "__len__": SELF, "__iter__": SELF,
+        "__bool__": SELF, "__contains__": "self, x", "__and__": TWO, "__or__": TWO, "__sub__": TWO, "__xor__": TWO,
+        "__invert__": SELF, "__le__": TWO, "__eq__": TWO,
+    }},
+    "base/rows.py": {"Book": {
+        "__init__": "self, rows=()", "of": "cls, rows", "read": "cls, text", "text": SELF, "__len__": SELF,
+        "__iter__": SELF, "__eq__": TWO, "__getitem__": "self, at", "__add__": TWO, "__or__": TWO,
+        "until": "self, day", "since": "self, day", "days": SELF, "changed": "self, place, amount",
+        "without": "self, place", "copied": "self, place", "swapped": "self, place",
+        "followed": "self, more, *, same=False",
+    }},
+    "base/fracs.py": {"Frac": {
+        "__init__": "self, top=0, bottom=1", "__add__": TWO, "__radd__": TWO, "__sub__": TWO, "__rsub__": TWO,
+        "__mul__": TWO, "__rmul__": TWO, "__lt__": TWO, "__le__": TWO, "__gt__": TWO, "__ge__": TWO, "__eq__": TWO,
+        "__neg__": SELF, "__abs__": SELF, "over": TWO, "text": SELF, "read": "cls, text", "added": "numbers",
+    }},
+    "base/spans.py": {"Span": {
+        "grow": "self, vector", "__contains__": "self, x", "__len__": SELF, "__iter__": SELF, "__add__": TWO,
+        "__eq__": TWO,
+    }},
+    "ledger/pages.py": {"Page": {
+        "__init__": "self, lines", "of": "cls, rows, opening", "read": "cls, text", "text": SELF, "rows": SELF,
+        "__len__": SELF, "__iter__": SELF, "__eq__": TWO, "__add__": TWO, "__rshift__": "self, count",
+        "__lshift__": "self, count", "__abs__": SELF, "opening": SELF, "closing": SELF, "first_day": SELF,
+        "last_day": SELF,
+    }},
+    "ledger/lots.py": {"Lots": {
+        "__init__": "self, links", "of": "cls, *pages", "__iter__": SELF, "__len__": SELF, "__contains__": "self, x",
+        "__getitem__": "self, at", "__add__": TWO, "__neg__": SELF, "__eq__": TWO, "__abs__": SELF,
+    }},
+}
+DECORATED = {"read": "classmethod", "of": "classmethod", "added": "staticmethod", "opening": "property",
+             "closing": "property", "first_day": "property", "last_day": "property"}
+
+
+def defined(body, kind):
+    return {node.name: node for node in body if isinstance(node, kind)}
+
+
+def tree_of(name):
+    return ast.parse((ROOT / name).read_text())
+
+
+class InterfaceTest(unittest.TestCase):
+    def test_functions(self):
+        for name, functions in FUNCTIONS.items():
+            here = defined(tree_of(name).body, ast.FunctionDef)
+            for function, arguments in functions.items():
+                with self.subTest(function=function):
+                    self.assertEqual(arguments, ast.unparse(here[function].args))
+
+    def test_methods_stand_in_the_bodies_of_their_classes(self):
+        for name, classes in METHODS.items():
+            here = defined(tree_of(name).body, ast.ClassDef)
+            for kind, methods in classes.items():
+                body = defined(here[kind].body, ast.FunctionDef)
+                for method, arguments in methods.items():
+                    with self.subTest(kind=kind, method=method):
+                        self.assertEqual(arguments, ast.unparse(body[method].args))
+                        marks = [DECORATED[method]] if method in DECORATED else []
+                        self.assertEqual(marks, [ast.unparse(mark) for mark in body[method].decorator_list])
+
+
+if __name__ == "__main__":
+    unittest.main()
