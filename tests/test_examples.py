@@ -4,6 +4,9 @@ import unittest
 
 from pagebureau.base.rows import Book
 from pagebureau.base.spans import Span
+from pagebureau.keeping.keepers import Keeper, kept_places
+from pagebureau.ledger.mending import Mended
+from pagebureau.ledger.pages import Page
 
 
 class ExamplesTest(unittest.TestCase):
@@ -26,6 +29,17 @@ class ExamplesTest(unittest.TestCase):
         second = span.grow((1, 2, 0))
         third = span.grow((0, 3, 3))
         self.assertEqual([True, False, True, [(1, 0, -2), (0, 1, 1)]], [first, second, third, list(span)])
+
+    def test_a_heap_made_good(self):
+        pages = [Page([(2, "a", 3, 8)]), Page([(2, "b", 5, 5)]), Page([(2, "a", 3, 8)])]
+        mended = Mended(pages, 0, 8)
+        self.assertEqual(
+            [[2], [1, 0], [], [(2, 'b', 5), (2, 'a', 3)], (0, 0)],
+            [mended.left_out, mended.order, mended.gaps, list(mended.book), mended.source(1)])
+
+    def test_a_keeper(self):
+        keeper = Keeper.read("hold: full, most skip")
+        self.assertEqual([1, 3], kept_places(keeper, [(0, "a", 3), (0, "b", 3), (0, "c", None), (1, "a", None)]))
 
 
 if __name__ == "__main__":

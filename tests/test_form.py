@@ -55,6 +55,42 @@ class FormTest(unittest.TestCase):
             for node in nodes_of(path, ast.Name):
                 self.assertTrue(node.id not in builtin - BUILTINS, (path, node.lineno, node.id))
 
+    def called(self, path, name):
+        calls = nodes_of(path, ast.Call)
+        return [node for node in calls if isinstance(node.func, ast.Name) and node.func.id == name]
+
+    def test_sorting(self):
+        # Where a class compares otherwise than by one key, only plain things are sorted.
+        for path in self.paths:
+            for node in self.called(path, "sorted"):
+                self.assertTrue(ast.unparse(node.args[0]).startswith("set("), (path, node.lineno))
+            for name in ("min", "max"):
+                for node in self.called(path, name):
+                    by_length = [keyword for keyword in node.keywords if ast.unparse(keyword) == "key=len"]
+                    plain = ast.unparse(node.args[0]).startswith(("[int(", "0", "1"))
+                    self.assertTrue(by_length or plain, (path, node.lineno))
+            for node in nodes_of(path, ast.Attribute):
+                self.assertNotEqual("sort", node.attr, (path, node.lineno))
+
+    def test_what_is_iterated_stands_in_a_list(self):
+        for path in self.paths:
+            self.assertEqual([], nodes_of(path, ast.GeneratorExp), path)
+            for node in nodes_of(path, ast.Starred):
+                called = isinstance(node.value, ast.Call) and ast.unparse(node.value.func) != "list"
+                self.assertFalse(called, (path, node.lineno))
+
+    def test_only_integers_are_added_in_place(self):
+        for path in self.paths:
+            for node in nodes_of(path, ast.AugAssign):
+                self.assertIsInstance(node.value, ast.Constant, (path, node.lineno))
+
+    def test_words_that_stand_nowhere(self):
+        words = set("typing enum register mro elements open input law type id dir exec eval compile super_ vars".split())
+        for path in self.paths:
+            for node in nodes_of(path, (ast.Name, ast.arg, ast.FunctionDef, ast.ClassDef, ast.Attribute)):
+                names = {getattr(node, field, None) for field in ("id", "arg", "name", "attr")}
+                self.assertFalse(names & words, (path, node.lineno))
+
 
 if __name__ == "__main__":
     unittest.main()

@@ -1,6 +1,7 @@
 import unittest
+from itertools import product
 
-from pagebureau.base.integers import is_digits, is_plain_integer, read_integer, written
+from pagebureau.base.integers import is_digits, is_plain_integer, misplaced, read_integer, written
 
 
 class IntegersTest(unittest.TestCase):
@@ -31,6 +32,16 @@ class IntegersTest(unittest.TestCase):
         self.assertIsNone(read_integer("100", 2))
         self.assertIsNone(read_integer("-100", 2))
         self.assertIsNone(read_integer("9" * 5000, 60))
+
+    def test_lists_that_number_things(self):
+        for count in range(4):
+            for length in range(5):
+                for numbers in product((-1, 0, 1, 2, 3), repeat=length):
+                    wrong = [at for at, k in enumerate(numbers) if not 0 <= k < count or k in numbers[:at]]
+                    missing = [length] if length < count else []
+                    self.assertEqual((wrong + missing + [None])[0], misplaced(list(numbers), count))
+        for thing in (True, False, None, "1", 1.0, [1], (1,)):
+            self.assertEqual(1, misplaced([0, thing], 2))
 
 
 if __name__ == "__main__":

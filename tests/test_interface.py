@@ -6,10 +6,27 @@ from pathlib import Path
 
 ROOT = Path(__file__).resolve().parent.parent / "pagebureau"
 
+HEAP = "pages, opening, closing"
 # For each file its functions and classes, with their arguments as they are called.
 FUNCTIONS = {
     "base/rows.py": {"is_row": "thing", "row_text": "row"},
     "ledger/lots.py": {"parting_links": "first, second"},
+    "ledger/heaps.py": {
+        "stages": "pages", "gaps": "pages, opening, closing, order", "fewest": HEAP, "prices": "pages, closing",
+        "toll": "links, told, balance",
+    },
+    "ledger/orders.py": {
+        "first_order": HEAP, "orders": HEAP, "followers": HEAP + ", number=None", "losses": HEAP, "stage_ends": HEAP,
+    },
+    "ledger/mending.py": {"copies": "pages", "lean": HEAP},
+    "ledger/misread.py": {"one_digit_apart": "first, second", "readings": "lines, opening, closing", "spares": HEAP},
+    "keeping/keepers.py": {
+        "kept_places": "keeper, rows, order=None", "kept_along": "keeper, rows", "keep_up": "keeper, batches",
+    },
+    "keeping/asking.py": {
+        "steady": "keeper", "lost": "keeper", "same_kept": "first, second", "kept_up": "keeper",
+    },
+    "filling/limits.py": {"fill_step": "way, *, rows=None, halt='-'", "read_fill": "text", "fill_text": "step"},
 }
 SELF, TWO = "self", "self, other"
 METHODS = {
@@ -44,9 +61,21 @@ METHODS = {
         "__init__": "self, links", "of": "cls, *pages", "__iter__": SELF, "__len__": SELF, "__contains__": "self, x",
         "__getitem__": "self, at", "__add__": TWO, "__neg__": SELF, "__eq__": TWO, "__abs__": SELF,
     }},
+    "ledger/mending.py": {"Mended": {
+        "__init__": "self, pages, opening, closing", "sure": SELF, "source": "self, place",
+    }},
+    "keeping/rules.py": {"Rule": {
+        "__init__": "self, terms", "read": "cls, text", "text": SELF, "ranked": SELF, "straight": SELF,
+        "__call__": "self, first, second", "__iter__": SELF, "__add__": TWO, "__neg__": SELF, "__eq__": TWO,
+    }},
+    "keeping/keepers.py": {"Keeper": {
+        "__init__": "self, manner, rule", "read": "cls, text", "text": SELF, "straight": SELF,
+        "__call__": "self, book", "__eq__": TWO,
+    }},
 }
 DECORATED = {"read": "classmethod", "of": "classmethod", "added": "staticmethod", "opening": "property",
-             "closing": "property", "first_day": "property", "last_day": "property"}
+             "closing": "property", "first_day": "property", "last_day": "property", "sure": "property",
+             "ranked": "property", "straight": "property"}
 
 
 def defined(body, kind):

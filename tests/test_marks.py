@@ -4,11 +4,10 @@ from itertools import combinations, permutations
 from support import BureauCase
 
 from pagebureau.base.errors import BadMarks, BadText
-from pagebureau.base.marks import Marks
+from pagebureau.base.marks import Marks, is_marks_text
 
 ALL = "abcdef"
 SETS = ["".join(marks) for count in range(7) for marks in combinations(ALL, count)]
-
 
 
 class MarksTest(BureauCase):
@@ -47,6 +46,13 @@ class MarksTest(BureauCase):
         for text in texts + ["a\n", "abcdefa", "fa", "abdc", "a,b", "+"]:
             with self.subTest(text=text):
                 self.assert_raises(BadText, (0,), Marks.read, text)
+                self.assertIs(False, is_marks_text(text))
+
+    def test_which_things_are_texts_of_sets(self):
+        for letters in SETS:
+            self.assertIs(True, is_marks_text(letters or "-"))
+        for thing in (None, True, 0, Marks("a"), Marks(), ["a"], ("a",), [], b"a"):
+            self.assertIs(False, is_marks_text(thing))
 
     def test_operators_of_two_sets(self):
         for first in SETS:

@@ -1,4 +1,4 @@
-"""Integers and their decimal digits."""
+"""Integers, their decimal digits, and lists that number things."""
 
 # Python itself writes and reads integers of only so many digits; chunks of this
 # length are far below that.
@@ -33,3 +33,17 @@ def read_integer(text, most):
         return None
     number = int(text)
     return number if written(number) == text else None
+
+
+def misplaced(numbers, count):
+    """The first index at which a list is not one of all numbers below a count, each once.
+
+    It is the length of the list if nothing in it is wrong but numbers are missing, and
+    None if the list is one.
+    """
+    seen = set()
+    for at, number in enumerate(numbers):
+        if not is_plain_integer(number) or not 0 <= number < count or number in seen:
+            return at
+        seen.add(number)
+    return len(numbers) if len(seen) < count else None

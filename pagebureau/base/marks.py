@@ -8,6 +8,13 @@ def is_mark(thing):
     return isinstance(thing, str) and len(thing) == 1 and thing in Marks.ALL
 
 
+def is_marks_text(thing):
+    """Whether the thing is the text of a set of marks."""
+    if not isinstance(thing, str) or thing == "":
+        return False
+    return thing == "-" or thing == "".join([mark for mark in Marks.ALL if mark in thing])
+
+
 class Marks:
     """A set of marks, which never changes."""
 
@@ -20,13 +27,9 @@ class Marks:
 
     @classmethod
     def read(cls, text):
-        letters = "" if text == "-" else text
-        if not all([is_mark(letter) for letter in letters]):
+        if not is_marks_text(text):
             raise BadText(0)
-        marks = cls(letters)
-        if marks.text() != text:
-            raise BadText(0)
-        return marks
+        return cls("" if text == "-" else text)
 
     def text(self):
         return self.letters if self.letters else "-"

@@ -55,7 +55,8 @@ def by_day(rows):
     return [rows[place] for _, place in sorted(set(keys))]
 
 
-def _check_rows(rows):
+def check_rows(rows):
+    """Raises BadRow with the place of the first item that is not a row."""
     for place, row in enumerate(rows):
         if not is_row(row):
             raise BadRow(place)
@@ -81,7 +82,7 @@ class Book:
 
     @classmethod
     def of(cls, rows):
-        _check_rows(rows)
+        check_rows(rows)
         return cls(by_day(rows))
 
     @classmethod

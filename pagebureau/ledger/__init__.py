@@ -1,1 +1,1 @@
-"""The ledger: pages of lines, and the lots of their balances."""
+"""The ledger: pages of lines, their lots, heaps and orders of pages, and how they are made good."""

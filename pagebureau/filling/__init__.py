@@ -1,0 +1,1 @@
+"""Filling: steps that fill empty rows."""

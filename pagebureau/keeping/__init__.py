@@ -1,0 +1,1 @@
+"""Keeping: rules that compare rows, and keepers that keep some rows of each day."""
