@@ -13,8 +13,76 @@ BUILTINS = set(
     "NotImplementedError AttributeError StopIteration NotImplemented".split())
 
 
+CHANGING = set(
+    "append clear extend insert pop remove reverse setdefault sort update add discard".split())
+WALKING = {"enumerate", "zip", "reversed", "items", "keys", "values"}
+
+
 def nodes_of(path, kind):
     return [node for node in ast.walk(ast.parse(path.read_text())) if isinstance(node, kind)]
+
+
+def choices_of(node):
+    """What an expression may stand for: the sides of a choice, or itself."""
+    if isinstance(node, ast.IfExp):
+        return choices_of(node.body) + choices_of(node.orelse)
+    if isinstance(node, ast.BoolOp):
+        return [choice for value in node.values for choice in choices_of(value)]
+    return [node]
+
+
+def walked_by(node):
+    """The texts of what a loop over an expression walks."""
+    found = []
+    for choice in choices_of(node):
+        if isinstance(choice, (ast.Name, ast.Attribute, ast.Subscript)):
+            found.append(ast.unparse(choice))
+        elif isinstance(choice, ast.Call):
+            func = choice.func
+            if isinstance(func, ast.Attribute) and func.attr in WALKING:
+                found += walked_by(func.value)
+            elif isinstance(func, ast.Name) and func.id in WALKING:
+                found += [text for argument in choice.args for text in walked_by(argument)]
+    return found
+
+
+def changed_in(rows):
+    """The texts of what some statements change."""
+    found = []
+    for node in [inner for row in rows for inner in ast.walk(row)]:
+        if isinstance(node, ast.Call) and isinstance(node.func, ast.Attribute) and node.func.attr in CHANGING:
+            found.append(ast.unparse(node.func.value))
+        for target in getattr(node, "targets", []) + [getattr(node, "target", None)]:
+            if isinstance(target, ast.Subscript) and not isinstance(node, (ast.For, ast.comprehension)):
+                found.append(ast.unparse(target.value))
+    return found
+
+
+def names_by_group(function):
+    """A dict from names to one that stands for all that are assigned to each other in a function."""
+    groups = {}
+    for node in ast.walk(function):
+        if isinstance(node, ast.Assign):
+            for target in node.targets:
+                for choice in choices_of(node.value):
+                    if not isinstance(choice, (ast.Name, ast.Attribute, ast.Subscript)):
+                        continue
+                    one, other = ast.unparse(target), ast.unparse(choice)
+                    old, new = groups.get(one, one), groups.get(other, other)
+                    groups.update({one: new, other: new})
+                    groups.update({name: new for name, group in groups.items() if group == old})
+    return groups
+
+
+def walked_and_changed(function):
+    """The rows of the loops of a function that change what they walk, also by another name for it."""
+    groups = names_by_group(function)
+
+    def grouped(texts):
+        return {groups.get(text, text) for text in texts}
+
+    loops = [node for node in ast.walk(function) if isinstance(node, ast.For)]
+    return [node.lineno for node in loops if grouped(walked_by(node.iter)) & grouped(changed_in(node.body))]
 
 
 class FormTest(unittest.TestCase):
@@ -79,10 +147,68 @@ class FormTest(unittest.TestCase):
                 called = isinstance(node.value, ast.Call) and ast.unparse(node.value.func) != "list"
                 self.assertFalse(called, (path, node.lineno))
 
-    def test_only_integers_are_added_in_place(self):
+    def test_what_is_turned_round_is_a_list(self):
         for path in self.paths:
-            for node in nodes_of(path, ast.AugAssign):
-                self.assertIsInstance(node.value, ast.Constant, (path, node.lineno))
+            for node in self.called(path, "reversed"):
+                self.assertTrue(ast.unparse(node.args[0]).startswith(("list(", "range(")), (path, node.lineno))
+
+    def test_nothing_is_added_in_place(self):
+        # A class has an in-place sum, and what operators and properties call has none then.
+        for path in self.paths:
+            self.assertEqual([], nodes_of(path, ast.AugAssign), path)
+
+    def test_what_a_loop_walks_is_not_changed_in_it(self):
+        for path in self.paths:
+            for function in nodes_of(path, ast.FunctionDef):
+                self.assertEqual([], walked_and_changed(function), (path, function.name))
+
+    def test_loops_that_change_what_they_walk_are_found(self):
+        for rows in (
+            ["for x in xs:", " xs.append(x)"], ["for x in enumerate(xs):", " xs[0] = x"], ["for x in d.items():", " del d[x]"],
+            ["while xs:", " ys = []", " for x in xs:", "  ys.append(x)", " xs = ys"], ["ys = xs", "for x in ys:", " xs.pop()"],
+            ["for x in self.rows:", " self.rows.remove(x)"], ["for x in xs if k else ys:", " if x:", "  ys.append(x)"],
+            ["zs = xs or ys", "for x in zs:", " for y in ws:", "  ys.append(x)"],
+        ):
+            function = ast.parse("def f(self, xs, ys, d, k, ws):\n" + "\n".join(f" {row}" for row in rows)).body[0]
+            self.assertEqual(1, len(walked_and_changed(function)), rows)
+        for rows in (
+            ["for x in list(xs):", " xs.append(x)"], ["for x in xs:", " ys.append(x)"], ["for x in xs[1:]:", " ys[0] = x"],
+            ["for x in [y for y in xs]:", " xs.append(x)"],
+            ["while len(xs) > k:", " xs.append(k)", " for y in ys:", "  xs.append(y)"],
+        ):
+            function = ast.parse("def f(self, xs, ys, k):\n" + "\n".join(f" {row}" for row in rows)).body[0]
+            self.assertEqual([], walked_and_changed(function), rows)
+
+    def test_generators_have_names_of_their_own(self):
+        functions = [node for path in self.paths for node in nodes_of(path, ast.FunctionDef)]
+        names = [node.name for node in functions]
+        for node in functions:
+            if any(isinstance(inner, (ast.Yield, ast.YieldFrom)) for inner in ast.walk(node)):
+                self.assertEqual(1, names.count(node.name), node.name)
+
+    def test_names_of_classes_and_imports_mean_nothing_else(self):
+        for path in self.paths:
+            taken = {name.name for node in nodes_of(path, ast.ImportFrom) for name in node.names}
+            taken |= {node.name for node in nodes_of(path, ast.ClassDef)}
+            for node in nodes_of(path, ast.Name):
+                self.assertFalse(isinstance(node.ctx, ast.Store) and node.id in taken, (path, node.lineno, node.id))
+            for node in nodes_of(path, ast.arg):
+                self.assertNotIn(node.arg, taken, (path, node.lineno))
+
+    def test_no_name_is_a_method_and_an_attribute(self):
+        classes = [node for path in self.paths for node in nodes_of(path, ast.ClassDef)]
+        methods = {node.name for kind in classes for node in kind.body if isinstance(node, ast.FunctionDef)}
+        values = {node.targets[0].id for kind in classes for node in kind.body if isinstance(node, ast.Assign)}
+        stored = [node for path in self.paths for node in nodes_of(path, ast.Attribute) if isinstance(node.ctx, ast.Store)]
+        attributes = {node.attr for node in stored if not node.attr.startswith("_")}
+        self.assertEqual([set()] * 3, [methods & attributes, methods & values, values & attributes])
+
+    def test_tables_of_modules_hold_plain_things(self):
+        for path in self.paths:
+            for node in ast.parse(path.read_text()).body:
+                if isinstance(node, ast.Assign):
+                    inner = [each for each in ast.walk(node.value) if isinstance(each, (ast.List, ast.Dict))]
+                    self.assertTrue(all(each is node.value for each in inner), (path, node.lineno))
 
     def test_words_that_stand_nowhere(self):
         words = set("typing enum register mro elements open input law type id dir exec eval compile super_ vars".split())

@@ -35,16 +35,16 @@ def _ring_from(rule, rows, start):
     """
     seen = {start}
     trails = [[start]]
-    while trails:
-        longer = []
-        for trail in trails:
-            for row in [each for each in rows if rule(each, trail[-1]) == 1]:
-                if row == start:
-                    return trail
-                if row not in seen:
-                    seen.add(row)
-                    longer.append([*trail, row])
-        trails = longer
+    walked = 0
+    while walked < len(trails):
+        trail = trails[walked]
+        walked = walked + 1
+        for row in [each for each in rows if rule(each, trail[-1]) == 1]:
+            if row == start:
+                return trail
+            if row not in seen:
+                seen.add(row)
+                trails.append([*trail, row])
     return None
 
 

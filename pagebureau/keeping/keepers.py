@@ -111,6 +111,6 @@ def keep_up(keeper, batches):
     for batch in batches:
         for row in batch:
             shelf.take(place, row)
-            place += 1
+            place = place + 1
         shelf.forget()
     return shelf.places()
