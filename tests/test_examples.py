@@ -4,6 +4,8 @@ import unittest
 
 from pagebureau.base.rows import Book
 from pagebureau.base.spans import Span
+from pagebureau.filling.filled import amounts_after
+from pagebureau.filling.fillings import Filling
 from pagebureau.keeping.keepers import Keeper, kept_places
 from pagebureau.ledger.mending import Mended
 from pagebureau.ledger.pages import Page
@@ -40,6 +42,10 @@ class ExamplesTest(unittest.TestCase):
     def test_a_keeper(self):
         keeper = Keeper.read("hold: full, most skip")
         self.assertEqual([1, 3], kept_places(keeper, [(0, "a", 3), (0, "b", 3), (0, "c", None), (1, "a", None)]))
+
+    def test_a_filling(self):
+        book = Book([(0, "a", 1), (0, "a", None), (1, "b", None), (1, "a", None), (2, "a", 5)])
+        self.assertEqual([1, 1, None, 5, 5], amounts_after(Filling.read("near_above rows 1\ndown halt b"), book))
 
 
 if __name__ == "__main__":

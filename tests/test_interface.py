@@ -27,6 +27,17 @@ FUNCTIONS = {
         "steady": "keeper", "lost": "keeper", "same_kept": "first, second", "kept_up": "keeper",
     },
     "filling/limits.py": {"fill_step": "way, *, rows=None, halt='-'", "read_fill": "text", "fill_text": "step"},
+    "filling/filled.py": {"amounts_after": "filling, book", "trace": "filling, book"},
+    "filling/race.py": {
+        "next_event": "filling, spot, above, below", "closed_list": "first, second", "parting_fill": "first, second",
+        "alike_fills": "first, second",
+    },
+    "filling/places.py": {
+        "must_stay": "filling", "plain_order": "filling", "needless_fills": "filling", "halting": "filling",
+        "farthest": "filling",
+    },
+    "shares/tables.py": {"tables_with": "total, marks"},
+    "shares/forms.py": {"form": "formula, marks"},
 }
 SELF, TWO = "self", "self, other"
 METHODS = {
@@ -72,10 +83,29 @@ METHODS = {
         "__init__": "self, manner, rule", "read": "cls, text", "text": SELF, "straight": SELF,
         "__call__": "self, book", "__eq__": TWO,
     }},
+    "filling/fillings.py": {"Filling": {
+        "__init__": "self, steps=()", "read": "cls, text", "text": SELF, "__len__": SELF, "__iter__": SELF, "__eq__": TWO,
+        "__add__": TWO, "__mul__": TWO, "__rmul__": TWO, "__call__": "self, book",
+    }},
+    "filling/places.py": {"Extent": {
+        "__init__": "self, amount=None", "__eq__": TWO, "__lt__": TWO, "__le__": TWO, "__add__": TWO, "__mul__": TWO,
+        "__rmul__": TWO,
+    }},
+    "shares/tables.py": {"Table": {
+        "__init__": "self, **counts", "of": "cls, *books", "__getitem__": "self, at", "__setitem__": "self, at, worth",
+        "put": "self, mark, amount", "__iter__": SELF, "__add__": TWO, "__mul__": TWO, "__rmul__": TWO, "__and__": TWO,
+        "__eq__": TWO, "total": SELF, "present": SELF,
+    }},
+    "shares/formulas.py": {"Formula": {
+        "share": "part, whole", "zero": "cls", "__add__": TWO, "__sub__": TWO, "__neg__": SELF, "__mul__": TWO,
+        "__rmul__": TWO, "__floordiv__": TWO, "__and__": TWO, "mean": "self, *groups", "__call__": "self, table",
+    }},
 }
+# Methods that are not plain, by their names, wherever they stand.
 DECORATED = {"read": "classmethod", "of": "classmethod", "added": "staticmethod", "opening": "property",
              "closing": "property", "first_day": "property", "last_day": "property", "sure": "property",
-             "ranked": "property", "straight": "property"}
+             "ranked": "property", "straight": "property", "total": "property", "present": "property",
+             "share": "staticmethod", "zero": "classmethod"}
 
 
 def defined(body, kind):

@@ -1,0 +1,1 @@
+"""Shares: tables of counts, and formulas of shares in them."""
