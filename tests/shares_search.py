@@ -11,6 +11,19 @@ ALL = "abcdef"
 SETS = [Marks("".join(mark for mark, chosen in zip(ALL, some) if chosen)) for some in product((False, True), repeat=6)]
 
 
+def shared(part, whole):
+    """The share of two sets that are told by their letters."""
+    return Formula.share(Marks(part), Marks(whole))
+
+
+def sized(size):
+    """A formula of this size."""
+    total = Formula.zero()
+    for _ in range(size):
+        total = total + shared("a", "ab")
+    return total
+
+
 def exact(frac):
     """The value of a Frac."""
     return Fraction(frac.top, frac.bottom)

@@ -9,6 +9,9 @@ from pagebureau.filling.fillings import Filling
 from pagebureau.keeping.keepers import Keeper, kept_places
 from pagebureau.ledger.mending import Mended
 from pagebureau.ledger.pages import Page
+from pagebureau.posting.batches import Batch
+from pagebureau.posting.plans import Plan
+from pagebureau.posting.services import Service, Store
 
 
 class ExamplesTest(unittest.TestCase):
@@ -46,6 +49,11 @@ class ExamplesTest(unittest.TestCase):
     def test_a_filling(self):
         book = Book([(0, "a", 1), (0, "a", None), (1, "b", None), (1, "a", None), (2, "a", 5)])
         self.assertEqual([1, 1, None, 5, 5], amounts_after(Filling.read("near_above rows 1\ndown halt b"), book))
+
+    def test_a_list_call(self):
+        batch = Batch([(0, "a", 1), (1, "a", 2)])
+        reply = Plan(timing="ahead")(Service.last_seat(), Store.empty(), batch)
+        self.assertEqual([[0, 0], [(0, 'a', 1), (1, 'a', 2)]], [list(reply), list(reply.book)])
 
 
 if __name__ == "__main__":

@@ -2,17 +2,15 @@ import random
 import unittest
 from time import process_time
 
-from shares_search import ALL, SETS, exact, random_marks, random_told, share, small_tables, table_of, value_of_form
+from shares_search import (
+    ALL, SETS, exact, random_marks, random_told, share, shared, small_tables, table_of, value_of_form,
+)
 from support import BureauCase
 
 from pagebureau.base.fracs import Frac
 from pagebureau.base.marks import Marks
 from pagebureau.shares.formulas import Formula
 from pagebureau.shares.forms import form
-
-
-def shared(part, whole):
-    return Formula.share(Marks(part), Marks(whole))
 
 
 class FormTest(BureauCase):

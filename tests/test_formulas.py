@@ -2,7 +2,8 @@ import random
 import unittest
 
 from shares_search import (
-    ALL, SETS, exact, mean, minus, on_sifted, over, plus, random_marks, random_table, random_told, share, times, turned, zero,
+    ALL, SETS, exact, mean, minus, on_sifted, over, plus, random_marks, random_table, random_told, share, shared,
+    sized, times, turned, zero,
 )
 from support import BureauCase
 
@@ -13,18 +14,6 @@ from pagebureau.shares.formulas import Formula
 from pagebureau.shares.tables import Table
 
 TABLE = Table(a=1, b=2, c=3, d=4)
-
-
-def shared(part, whole):
-    return Formula.share(Marks(part), Marks(whole))
-
-
-def sized(size):
-    """A formula of this size."""
-    total = Formula.zero()
-    for _ in range(size):
-        total = total + shared("a", "ab")
-    return total
 
 
 class FormulaCase(BureauCase):

@@ -38,8 +38,22 @@ FUNCTIONS = {
     },
     "shares/tables.py": {"tables_with": "total, marks"},
     "shares/forms.py": {"form": "formula, marks"},
+    "shares/comparing.py": {
+        "same_formula": "first, second", "parting_table": "first, second", "single_share": "formula",
+        "sieve_places": "part, whole, sieve",
+    },
+    "shares/mixing.py": {"weights": "wanted, told", "bar": "wanted, told"},
+    "posting/services.py": {"single_call": "service, store, request"},
+    "posting/promises.py": {
+        "broken": "promise, service, plan, store, batch", "faults": "service, plan, store, batch",
+    },
+    "posting/verdicts.py": {
+        "small_cases": "service", "least": "promise, service, plan", "held": "service, plan", "always": "plan",
+        "right_sizes": "promise, service, plan, most", "repairs": "promise, service, plan",
+    },
 }
 SELF, TWO = "self", "self, other"
+STEP = {"text": SELF, "__call__": "self, book", "straight": SELF}
 METHODS = {
     "base/marks.py": {"Marks": {
         "__init__": "self, letters=''", "read": "cls, text", "text": SELF, "__len__": SELF, "__iter__": SELF,
@@ -100,12 +114,42 @@ METHODS = {
         "share": "part, whole", "zero": "cls", "__add__": TWO, "__sub__": TWO, "__neg__": SELF, "__mul__": TWO,
         "__rmul__": TWO, "__floordiv__": TWO, "__and__": TWO, "mean": "self, *groups", "__call__": "self, table",
     }},
+    "posting/services.py": {
+        "Service": {"__init__": "self, letters, grid", "last_seat": ""},
+        "Store": {"__init__": "self, shared, states", "empty": "cls", "__getitem__": "self, at", "__eq__": TWO},
+    },
+    "posting/batches.py": {"Batch": {
+        "__init__": "self, requests", "__len__": SELF, "__iter__": SELF, "__contains__": "self, x", "__eq__": TWO,
+        "__getitem__": "self, at", "__add__": TWO, "__iadd__": TWO, "__mul__": TWO, "__rmul__": TWO, "__floordiv__": TWO,
+    }},
+    "posting/plans.py": {
+        "Plan": {
+            "__init__": "self, *, order='given', duplicates='keep', size=0, timing='each', refusal='continue'",
+            "__eq__": TWO, "changed": "self, **options", "__call__": "self, service, store, batch",
+        },
+        "Reply": {
+            "__iter__": SELF, "__len__": SELF, "__getitem__": "self, at", "sequence": SELF, "done": SELF, "refused": SELF,
+            "skipped": SELF, "entered": SELF,
+        },
+    },
+    "posting/verdicts.py": {"Case": {
+        "__init__": "self, batch, store", "batch": SELF, "__eq__": TWO, "__lt__": TWO, "__le__": TWO,
+    }},
+    "flows/steps.py": {
+        "Step": {"read": "text", "__eq__": TWO},
+        "Sift": {"__init__": "self, marks", **STEP}, "Rename": {"__init__": "self, marks, mark", **STEP},
+        "Keep": {"__init__": "self, keeper", **STEP}, "Fill": {"__init__": "self, limits", **STEP}, "Run": STEP,
+        "Change": STEP, "Total": {"__init__": "self, mark", **STEP}, "Against": {"__init__": "self, marks, mark", **STEP},
+        "Times": {"__init__": "self, factor", **STEP},
+    },
 }
-# Methods that are not plain, by their names, wherever they stand.
+# Methods that are not plain, by their names, in all classes or in one.
 DECORATED = {"read": "classmethod", "of": "classmethod", "added": "staticmethod", "opening": "property",
              "closing": "property", "first_day": "property", "last_day": "property", "sure": "property",
              "ranked": "property", "straight": "property", "total": "property", "present": "property",
-             "share": "staticmethod", "zero": "classmethod"}
+             "share": "staticmethod", "zero": "classmethod", "last_seat": "staticmethod", "empty": "classmethod",
+             "sequence": "property", "done": "property", "refused": "property", "skipped": "property",
+             "entered": "property", "batch": "property", "Step.read": "staticmethod"}
 
 
 def defined(body, kind):
@@ -132,7 +176,8 @@ class InterfaceTest(unittest.TestCase):
                 for method, arguments in methods.items():
                     with self.subTest(kind=kind, method=method):
                         self.assertEqual(arguments, ast.unparse(body[method].args))
-                        marks = [DECORATED[method]] if method in DECORATED else []
+                        mark = DECORATED.get(f"{kind}.{method}", DECORATED.get(method))
+                        marks = [] if mark is None else [mark]
                         self.assertEqual(marks, [ast.unparse(mark) for mark in body[method].decorator_list])
 
 

@@ -3,7 +3,7 @@ import unittest
 from itertools import combinations, permutations
 from time import process_time
 
-from filling_search import DROP, random_filling, random_step
+from filling_search import random_filling, random_step
 from support import BureauCase
 
 from pagebureau.base.marks import Marks
@@ -99,8 +99,8 @@ class HaltingTest(BureauCase):
     def test_some_marks(self):
         for text, marks in [
             ("", "-"), ("down", "-"), ("down halt a", "a"), ("down halt abcdef", "abcdef"), ("drop\ndown halt a", "-"),
-            ("down halt ab\ndown halt bc", "abc"), ("down halt ab\ndown halt b", "b"), ("near_above rows 2 halt ce\nup halt ef", "cef"), ("down\nnear_above halt b", "b"),
-            ("down\ndown halt b", "-"), ("down\nup halt c\nup", "-"),
+            ("down halt ab\ndown halt bc", "abc"), ("down halt ab\ndown halt b", "b"), ("down\nnear_above halt b", "b"),
+            ("near_above rows 2 halt ce\nup halt ef", "cef"), ("down\ndown halt b", "-"), ("down\nup halt c\nup", "-"),
         ]:
             self.assertEqual(marks, halting(Filling.read(text)).text(), text)
 

@@ -1,11 +1,17 @@
 """Sets of marks."""
 
-from pagebureau.base.errors import BadMarks, BadText
+from pagebureau.base.errors import BadMarks, BadText, NoMark
 
 
 def is_mark(thing):
     """Whether the thing is one of the marks."""
     return isinstance(thing, str) and len(thing) == 1 and thing in Marks.ALL
+
+
+def check_mark(thing):
+    """Raises NoMark for anything that is not one of the marks."""
+    if not is_mark(thing):
+        raise NoMark(thing)
 
 
 def is_marks_text(thing):

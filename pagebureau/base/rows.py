@@ -4,7 +4,7 @@ from pagebureau.base.errors import BadRow, BadText, NoRow
 from pagebureau.base.integers import is_digits, is_plain_integer
 from pagebureau.base.marks import is_mark
 
-_LAST_DAY = 9999
+LAST_DAY = 9999
 # An amount and its text have at most so many digits.
 _DIGITS = 40
 _BEYOND = 10 ** 40
@@ -19,7 +19,7 @@ def is_row(thing):
     if not isinstance(thing, tuple) or len(thing) != 3:
         return False
     day, mark, amount = thing
-    return is_plain_integer(day) and 0 <= day <= _LAST_DAY and is_mark(mark) and is_amount(amount)
+    return is_plain_integer(day) and 0 <= day <= LAST_DAY and is_mark(mark) and is_amount(amount)
 
 
 def row_text(row):

@@ -128,7 +128,7 @@ class Walk:
             way = self._ways[state]
         return passed["above"], passed["below"]
 
-    def rows(self):
+    def parting_rows(self):
         """The rows of which the fillings leave different books: one is still empty at the choice.
 
         Each row but a full one above has the mark of the border above it, if that matters.
@@ -165,7 +165,7 @@ def closed_list(first, second):
 
 
 def parting_fill(first, second):
-    lists = [walk.rows() for walk in _walks(first, second) if walk.parting is not None]
+    lists = [walk.parting_rows() for walk in _walks(first, second) if walk.parting is not None]
     return Book(min(lists, key=len)) if lists else None
 
 

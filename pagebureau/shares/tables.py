@@ -1,13 +1,8 @@
 """Tables: a count for each mark."""
 
-from pagebureau.base.errors import BadAmount, NoMark
+from pagebureau.base.errors import BadAmount
 from pagebureau.base.integers import is_plain_integer
-from pagebureau.base.marks import Marks, is_mark
-
-
-def _check_mark(name):
-    if not is_mark(name):
-        raise NoMark(name)
+from pagebureau.base.marks import Marks, check_mark
 
 
 def _check_count(mark, amount):
@@ -22,7 +17,7 @@ class Table:
 
     def __init__(self, **counts):
         for name in counts:
-            _check_mark(name)
+            check_mark(name)
         self._counts = [counts.get(mark, 0) for mark in Marks.ALL]
         for mark, amount in zip(Marks.ALL, self._counts):
             _check_count(mark, amount)
@@ -34,11 +29,11 @@ class Table:
         return cls(**counts)
 
     def __getitem__(self, at):
-        _check_mark(at)
+        check_mark(at)
         return self._counts[Marks.ALL.find(at)]
 
     def put(self, mark, amount):
-        _check_mark(mark)
+        check_mark(mark)
         _check_count(mark, amount)
         self._counts[Marks.ALL.find(mark)] = amount
 

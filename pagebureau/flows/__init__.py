@@ -1,0 +1,1 @@
+"""Flows: steps that turn books into books."""

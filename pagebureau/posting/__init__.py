@@ -1,0 +1,1 @@
+"""Posting: services, batches of requests, and what plans of posting them promise."""
