@@ -85,6 +85,98 @@ def walked_and_changed(function):
     return [node.lineno for node in loops if grouped(walked_by(node.iter)) & grouped(changed_in(node.body))]
 
 
+OPERATORS = {
+    f"__{name}__" for name in
+    "lt le gt ge ne add sub mul floordiv mod pow and or xor lshift rshift radd rsub rmul rfloordiv neg pos invert abs bool contains "
+    "getitem eq repr str len".split()}
+
+
+class Package:
+    """The functions, methods and classes of some files, and what operators and properties run of them, told by names."""
+
+    def __init__(self, trees):
+        self.classes, self.methods, self.functions, self.attributes = {}, {}, {}, set()
+        for name, tree in trees.items():
+            for node in ast.walk(tree):
+                if isinstance(node, ast.Attribute) and isinstance(node.ctx, ast.Store):
+                    self.attributes.add(node.attr)
+            for node in tree.body:
+                if isinstance(node, ast.FunctionDef):
+                    self.functions.setdefault(node.name, []).append((name, node))
+                if isinstance(node, ast.ClassDef):
+                    self.classes[node.name] = (name, node)
+                    for inner in node.body:
+                        if isinstance(inner, ast.FunctionDef):
+                            self.methods.setdefault(inner.name, []).append((name, inner))
+
+    def roots(self):
+        for name, node in self.classes.values():
+            for inner in node.body:
+                marked = isinstance(inner, ast.FunctionDef) and "property" in [ast.unparse(mark) for mark in inner.decorator_list]
+                if marked or (isinstance(inner, ast.FunctionDef) and inner.name in OPERATORS):
+                    yield name, inner
+
+    def called(self, name, call):
+        """The functions that a call in a file may run."""
+        func = call.func
+        if isinstance(func, ast.Attribute):
+            return [] if func.attr == "__init__" else self.methods.get(func.attr, [])
+        if isinstance(func, ast.Name) and func.id in self.classes:
+            where, node = self.classes[func.id]
+            return [(where, inner) for inner in node.body if isinstance(inner, ast.FunctionDef) and inner.name == "__init__"]
+        if isinstance(func, ast.Name):
+            found = self.functions.get(func.id, [])
+            return [pair for pair in found if pair[0] == name or not func.id.startswith("_")]
+        return []
+
+    def run(self):
+        """All functions that operators and properties run."""
+        found, waiting = {}, list(self.roots())
+        while waiting:
+            name, node = waiting.pop()
+            if id(node) not in found:
+                found[id(node)] = node
+                calls = [inner for inner in ast.walk(node) if isinstance(inner, ast.Call)]
+                waiting += [pair for call in calls for pair in self.called(name, call)]
+        return list(found.values())
+
+    def held_calls(self):
+        """The names of attributes and variables that are called in what operators and properties run."""
+        found = []
+        for node in self.run():
+            for call in [inner for inner in ast.walk(node) if isinstance(inner, ast.Call)]:
+                func = call.func
+                if isinstance(func, ast.Attribute):
+                    found += [func.attr] if func.attr in self.attributes else []
+                elif isinstance(func, ast.Name):
+                    known = func.id in BUILTINS | {"cls", "gcd", "lcm"} or func.id in self.classes or func.id in self.functions
+                    found += [] if known else [func.id]
+                else:
+                    found.append(ast.unparse(func))
+        return found
+
+    def changes(self):
+        """What is changed in what operators and properties run, but for lists and dicts that were made there."""
+        found = []
+        for node in [each for each in self.run() if each.name != "__init__"]:
+            assigned = [inner for inner in ast.walk(node) if isinstance(inner, ast.Assign) and isinstance(inner.targets[0], ast.Name)]
+            made = {inner.targets[0].id for inner in assigned if is_made(inner.value)}
+            stored = [inner for inner in ast.walk(node) if isinstance(inner, (ast.Attribute, ast.Subscript)) and isinstance(inner.ctx, ast.Store)]
+            found += [ast.unparse(inner) for inner in stored if ast.unparse(inner.value) not in made or isinstance(inner, ast.Attribute)]
+            for call in [inner for inner in ast.walk(node) if isinstance(inner, ast.Call)]:
+                func = call.func
+                if isinstance(func, ast.Attribute) and func.attr in CHANGING and ast.unparse(func.value) not in made:
+                    found.append(ast.unparse(func))
+        return found
+
+
+def is_made(value):
+    """Whether a value is a new list or dict."""
+    if isinstance(value, ast.Call):
+        return ast.unparse(value.func) in ("list", "dict", "sorted")
+    return isinstance(value, (ast.List, ast.ListComp, ast.Dict))
+
+
 class FormTest(unittest.TestCase):
     def setUp(self):
         self.paths = sorted(ROOT.rglob("*.py"))
@@ -202,6 +294,30 @@ class FormTest(unittest.TestCase):
         stored = [node for path in self.paths for node in nodes_of(path, ast.Attribute) if isinstance(node.ctx, ast.Store)]
         attributes = {node.attr for node in stored if not node.attr.startswith("_")}
         self.assertEqual([set()] * 3, [methods & attributes, methods & values, values & attributes])
+
+    def test_operators_and_properties_call_nothing_that_is_held(self):
+        package = Package({path: ast.parse(path.read_text()) for path in self.paths})
+        self.assertLess(100, len(package.run()))
+        self.assertEqual([], package.held_calls())
+
+    def test_operators_and_properties_change_nothing(self):
+        package = Package({path: ast.parse(path.read_text()) for path in self.paths})
+        self.assertEqual([], package.changes())
+
+    def test_held_calls_and_changes_are_found(self):
+        other = "class Other:\n def __init__(self):\n  self.count = 0\n  self.step = None\n"
+        for rows, held, changed in (
+            ("class Box:\n def __or__(self, other):\n  return Book.of(other)\nclass Book:\n def of(rows):\n  return rows.count(1)\n", ["count"], []),
+            ("class Box:\n @property\n def many(self):\n  return told(self)\ndef told(box):\n return box.step(1)\n", ["step"], []),
+            ("class Box:\n def __eq__(self, other):\n  return other(self)\n", ["other"], []),
+            ("class Box:\n def __len__(self):\n  return self.made()\n def made(self):\n  self.rows.append(1)\n", [], ["self.rows.append"]),
+            ("class Box:\n def __add__(self, other):\n  other.many = 3\n  self.rows[0] = 1\n", [], ["other.many", "self.rows[0]"]),
+            ("class Box:\n def __add__(self, other):\n  rows = [1]\n  rows[0] = 2\n  rows.append(3)\n  return rows\n", [], []),
+            ("class Box:\n def told(self, other):\n  self.count = 3\n  return self.count(other)\n", [], []),
+            ("class Box:\n def __iadd__(self, other):\n  self.rows.append(other)\n  return self\n", [], []),
+        ):
+            package = Package({"box.py": ast.parse(rows), "other.py": ast.parse(other)})
+            self.assertEqual((held, changed), (package.held_calls(), package.changes()), rows)
 
     def test_tables_of_modules_hold_plain_things(self):
         for path in self.paths:

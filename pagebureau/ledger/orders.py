@@ -31,7 +31,7 @@ class Ways:
     """
 
     def __init__(self, pages, opening, closing):
-        self.count = len(pages)
+        self.many_pages = len(pages)
         self._stages = stages(pages)
         self._after = told_prices(pages, closing)
         self._before = _told_before([links_of(pages, stage) for stage in self._stages], opening)
@@ -47,13 +47,13 @@ class Ways:
                 self._stage_of[number] = at
         self._known = {}
 
-    def _links(self, numbers):
+    def _links_with(self, numbers):
         return [(self._wanted[number], self._carried[number]) for number in numbers]
 
     def _others(self, numbers):
         """The links of the other pages of the stage of some pages."""
         stage = self._stages[self._stage_of[numbers[0]]]
-        return self._links([number for number in stage if number not in numbers])
+        return self._links_with([number for number in stage if number not in numbers])
 
     def _gap(self, first, second):
         return int(self._carried[first] != self._wanted[second])
@@ -61,7 +61,7 @@ class Ways:
     def lowest(self):
         """The lowest fewest order."""
         order = []
-        while len(order) < self.count:
+        while len(order) < self.many_pages:
             order.append(self.choices(order)[0])
         return order
 
@@ -83,12 +83,12 @@ class Ways:
 
     def _cost_next(self, at, rest, last, number):
         """The fewest gaps to come when, of the rest of a stage, this page is next."""
-        links = self._links([other for other in rest if other != number])
+        links = self._links_with([other for other in rest if other != number])
         return self._gap(last, number) + toll(links, self._after[at], self._carried[number])
 
     def next_to(self, number):
         """The ascending list of what follows the page with this number in fewest orders."""
-        return [other for other in range(self.count + 1) if self._follows(number, other)]
+        return [other for other in range(self.many_pages + 1) if self._follows(number, other)]
 
     def _follows(self, first, second):
         stage, next_stage = self._stage_of[first], self._stage_of[second]
@@ -115,7 +115,7 @@ class Ways:
 
     def _cost_from(self, number):
         """The fewest gaps behind a page that is the first one of its stage."""
-        if number == self.count:
+        if number == self.many_pages:
             return 0
         after = self._after[self._stage_of[number]]
         return toll(self._others([number]), after, self._carried[number])
@@ -134,7 +134,7 @@ class Ways:
     def ends(self):
         """For each stage the closings of the pages that are last in it in fewest orders."""
         last = [[number for number in stage if self._is_last(number)] for stage in self._stages]
-        return [closings_of(self._links(numbers)) for numbers in last]
+        return [closings_of(self._links_with(numbers)) for numbers in last]
 
 
 def first_order(pages, opening, closing):
@@ -154,7 +154,7 @@ def orders(pages, opening, closing):
 
 
 def _orders_from(ways, order):
-    if len(order) == ways.count:
+    if len(order) == ways.many_pages:
         # The next orders come from this list, whatever is done to the one that is yielded.
         yield list(order)
     for number in ways.choices(order):

@@ -88,9 +88,9 @@ class Store:
         raise TypeError("the own states have no end")
 
     def __eq__(self, other):
-        return isinstance(other, Store) and self.shared == other.shared and self._others() == other._others()
+        return isinstance(other, Store) and self.shared == other.shared and self._set_states() == other._set_states()
 
-    def _others(self):
+    def _set_states(self):
         """A dict from the days whose own states are not 0 to these."""
         return {day: own for day, own in self._states.items() if own != 0}
 
