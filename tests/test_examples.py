@@ -6,6 +6,9 @@ from pagebureau.base.rows import Book
 from pagebureau.base.spans import Span
 from pagebureau.filling.filled import amounts_after
 from pagebureau.filling.fillings import Filling
+from pagebureau.flows.figures import Report
+from pagebureau.flows.sources import sources
+from pagebureau.judge.bases import Basis
 from pagebureau.keeping.keepers import Keeper, kept_places
 from pagebureau.ledger.mending import Mended
 from pagebureau.ledger.pages import Page
@@ -54,6 +57,16 @@ class ExamplesTest(unittest.TestCase):
         batch = Batch([(0, "a", 1), (1, "a", 2)])
         reply = Plan(timing="ahead")(Service.last_seat(), Store.empty(), batch)
         self.assertEqual([[0, 0], [(0, 'a', 1), (1, 'a', 2)]], [list(reply), list(reply.book)])
+
+    def test_sources(self):
+        report = Report.read("keep over: full\nfill down rows 1\nsum abcdef")
+        book = Book([(0, "a", None), (0, "b", 4), (1, "a", None), (2, "a", None)])
+        self.assertEqual([8, (0, [(1, 2)])], [report(book), sources(report, book)])
+
+    def test_a_basis(self):
+        basis = Basis(Report.read("fill down\nsum a"))
+        a, b, c = basis.shadow(Book([(0, "b", 7), (3, "a", None)]))
+        self.assertEqual(['-6', '7', '0'], [a.text(), b.text(), c.text()])
 
 
 if __name__ == "__main__":

@@ -51,6 +51,15 @@ FUNCTIONS = {
         "small_cases": "service", "least": "promise, service, plan", "held": "service, plan", "always": "plan",
         "right_sizes": "promise, service, plan, most", "repairs": "promise, service, plan",
     },
+    "flows/figures.py": {"figure_of": "book, word, marks"},
+    "flows/flow.py": {"figures_along": "report, rows"},
+    "flows/sources.py": {"sources": "report, book", "line_sources": "report, mended"},
+    "judge/letters.py": {
+        "letters_of": "*reports", "grown": "book, letter", "mark_classes": "*reports", "effort": "*reports", "pipeline_effort": "pipeline",
+    },
+    "judge/alike.py": {
+        "alike": "first, second", "parting": "first, second", "may_swap": "report, at", "needless_steps": "report",
+    },
 }
 SELF, TWO = "self", "self, other"
 STEP = {"text": SELF, "__call__": "self, book", "straight": SELF}
@@ -142,6 +151,25 @@ METHODS = {
         "Change": STEP, "Total": {"__init__": "self, mark", **STEP}, "Against": {"__init__": "self, marks, mark", **STEP},
         "Times": {"__init__": "self, factor", **STEP},
     },
+    "flows/pipelines.py": {"Pipeline": {
+        "__init__": "self, steps=()", "read": "cls, text", "text": SELF, "__len__": SELF, "__iter__": SELF, "__eq__": TWO,
+        "__getitem__": "self, at", "__add__": TWO, "without": "self, at", "swapped": "self, at", "straight": SELF,
+        "__call__": "self, book", "along": "self, book",
+    }},
+    "flows/figures.py": {
+        "Report": {
+            "__init__": "self, pipeline, word, marks", "read": "cls, text", "text": SELF, "__eq__": TWO, "straight": SELF,
+            "__call__": "self, book", "on": "self, books", "with_steps": "self, pipeline",
+        },
+        "Rate": {"__init__": "self, top, bottom", "read": "cls, text", "text": SELF, "__eq__": TWO, "__call__": "self, books"},
+        "Sheet": {"__init__": "self, pipeline, formula", "table": "self, books", "__call__": "self, books"},
+    },
+    "flows/flow.py": {"Flow": {
+        "__init__": "self, report", "take": "self, row", "taken": SELF, "figure": SELF, "copy": SELF,
+    }},
+    "judge/bases.py": {"Basis": {
+        "__init__": "self, *reports", "__len__": SELF, "__iter__": SELF, "shadow": "self, book", "matrix": "self, letter", "tests": SELF,
+    }},
 }
 # Methods that are not plain, by their names, in all classes or in one.
 DECORATED = {"read": "classmethod", "of": "classmethod", "added": "staticmethod", "opening": "property",
@@ -149,7 +177,7 @@ DECORATED = {"read": "classmethod", "of": "classmethod", "added": "staticmethod"
              "ranked": "property", "straight": "property", "total": "property", "present": "property",
              "share": "staticmethod", "zero": "classmethod", "last_seat": "staticmethod", "empty": "classmethod",
              "sequence": "property", "done": "property", "refused": "property", "skipped": "property",
-             "entered": "property", "batch": "property", "Step.read": "staticmethod"}
+             "entered": "property", "batch": "property", "Step.read": "staticmethod", "taken": "property", "figure": "property"}
 
 
 def defined(body, kind):

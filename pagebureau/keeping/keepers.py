@@ -42,12 +42,19 @@ class Keeper:
         return isinstance(other, Keeper) and self.manner == other.manner and self.rule == other.rule
 
 
+def is_replaced(keeper, kept, row):
+    """Whether a later row takes the place of the only one that a keeper has kept of their day."""
+    # With a ranked rule, "first" keeps the same as "over", and "last" the same as "hold".
+    if keeper.manner in ("over", "first"):
+        return keeper.rule(row, kept) == 1
+    return keeper.rule(kept, row) != 1
+
+
 class Shelf:
     """What a keeper keeps of rows that come one after another."""
 
     def __init__(self, keeper):
-        self._manner = keeper.manner
-        self._rule = keeper.rule
+        self._keeper = keeper
         # Dicts from days: the rows that can still beat others, and the kept ones with their places.
         self._seen = {}
         self._kept = {}
@@ -55,21 +62,16 @@ class Shelf:
     def take(self, place, row):
         """Takes the next row in stored order."""
         day = row[0]
-        if self._manner == "none":
+        if self._keeper.manner == "none":
             self._take_beside(day, place, row)
-        elif day not in self._kept or self._is_replaced(self._kept[day][0][1], row):
+        elif day not in self._kept or is_replaced(self._keeper, self._kept[day][0][1], row):
             self._kept[day] = [(place, row)]
 
-    def _is_replaced(self, kept, row):
-        # With a ranked rule, "first" keeps the same as "over", and "last" the same as "hold".
-        if self._manner in ("over", "first"):
-            return self._rule(row, kept) == 1
-        return self._rule(kept, row) != 1
-
     def _take_beside(self, day, place, row):
+        rule = self._keeper.rule
         seen = self._seen.get(day, [])
-        kept = [pair for pair in self._kept.get(day, []) if self._rule(row, pair[1]) != 1]
-        if all([self._rule(other, row) != 1 for other in seen]):
+        kept = [pair for pair in self._kept.get(day, []) if rule(row, pair[1]) != 1]
+        if all([rule(other, row) != 1 for other in seen]):
             kept.append((place, row))
         self._kept[day] = kept
         self._seen[day] = [*seen, row]

@@ -1,0 +1,1 @@
+"""The judge: questions about straight reports, pipelines and rates for all books."""
