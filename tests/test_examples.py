@@ -6,12 +6,20 @@ from pagebureau.base.rows import Book
 from pagebureau.base.spans import Span
 from pagebureau.filling.filled import amounts_after
 from pagebureau.filling.fillings import Filling
-from pagebureau.flows.figures import Report
+from pagebureau.flows.figures import Rate, Report
+from pagebureau.flows.pipelines import Pipeline
 from pagebureau.flows.sources import sources
+from pagebureau.judge.alike import alike, parting
 from pagebureau.judge.bases import Basis
+from pagebureau.judge.coming import coming, is_free, unit_book
+from pagebureau.judge.late import on_time
+from pagebureau.judge.moves import Move
+from pagebureau.judge.rates import alike_rates
 from pagebureau.keeping.keepers import Keeper, kept_places
 from pagebureau.ledger.mending import Mended
 from pagebureau.ledger.pages import Page
+from pagebureau.papers.making import likeness_paper
+from pagebureau.papers.reading import alike_by, on_time_by
 from pagebureau.posting.batches import Batch
 from pagebureau.posting.plans import Plan
 from pagebureau.posting.services import Service, Store
@@ -63,10 +71,39 @@ class ExamplesTest(unittest.TestCase):
         book = Book([(0, "a", None), (0, "b", 4), (1, "a", None), (2, "a", None)])
         self.assertEqual([8, (0, [(1, 2)])], [report(book), sources(report, book)])
 
+    def test_reports_that_are_parted(self):
+        first = Report.read("sift ab\nkeep over: in a\ncount b")
+        second = Report.read("keep over: in a\nsift ab\ncount b")
+        self.assertEqual(
+            [False, 2, None, False],
+            [alike(first, second), len(parting(first, second)), on_time(first), on_time(second) is None])
+
+    def test_alike_rates(self):
+        first = Rate.read("count a\nper\ncount ab")
+        self.assertIs(True, alike_rates(first, Rate.read("sift ab\ncount a\nper\nsift ab\ncount abc")))
+
+    def test_what_comes(self):
+        pipeline = Pipeline.read("against a b")
+        self.assertEqual(
+            ['abcdef', None, False, 1],
+            [coming(pipeline).text(), unit_book(pipeline, "a"), is_free(pipeline), len(unit_book(pipeline, "b"))])
+
+    def test_moves(self):
+        report = Report.read("fill down\nsum a")
+        self.assertEqual([5, None], [Move(report, "doubled", 0, 5).most, Move(report, "late", 0, 5).most])
+
     def test_a_basis(self):
         basis = Basis(Report.read("fill down\nsum a"))
         a, b, c = basis.shadow(Book([(0, "b", 7), (3, "a", None)]))
         self.assertEqual(['-6', '7', '0'], [a.text(), b.text(), c.text()])
+
+    def test_a_paper(self):
+        first = Report.read("run\nchange\nsum a")
+        second = Report.read("sum a")
+        paper = likeness_paper(first, second)
+        self.assertEqual(
+            ['basis', None, True, True],
+            [paper.KIND, paper.examine(first, second), alike_by(paper, first, second), on_time_by(paper, second)])
 
 
 if __name__ == "__main__":

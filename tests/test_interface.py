@@ -60,9 +60,26 @@ FUNCTIONS = {
     "judge/alike.py": {
         "alike": "first, second", "parting": "first, second", "may_swap": "report, at", "needless_steps": "report",
     },
+    "judge/late.py": {
+        "on_time": "report", "steadfast": "report", "seen_row": "report, mark", "unseen": "report", "batched": "report",
+    },
+    "judge/rates.py": {"alike_rates": "first, second", "parting_rates": "first, second"},
+    "judge/coming.py": {
+        "coming": "pipeline", "coming_book": "pipeline, mark", "unit_book": "pipeline, mark", "is_free": "pipeline",
+        "parting_sheets": "pipeline, first, second",
+    },
+    "papers/making.py": {
+        "order_paper": HEAP, "basis_paper": "*reports", "likeness_paper": "first, second", "sources_paper": "report, book",
+        "mixing_paper": "wanted, told",
+    },
+    "papers/reading.py": {
+        "alike_by": "paper, first, second", "on_time_by": "paper, report", "steadfast_by": "paper, report",
+        "unseen_by": "paper, report",
+    },
 }
 SELF, TWO = "self", "self, other"
 STEP = {"text": SELF, "__call__": "self, book", "straight": SELF}
+PAPER = {"text": SELF, "examine": "self, *question", "__eq__": TWO}
 METHODS = {
     "base/marks.py": {"Marks": {
         "__init__": "self, letters=''", "read": "cls, text", "text": SELF, "__len__": SELF, "__iter__": SELF,
@@ -170,6 +187,21 @@ METHODS = {
     "judge/bases.py": {"Basis": {
         "__init__": "self, *reports", "__len__": SELF, "__iter__": SELF, "shadow": "self, book", "matrix": "self, letter", "tests": SELF,
     }},
+    "judge/moves.py": {"Move": {"__init__": "self, report, way, low, high", "farther": "self, count"}},
+    "desk/desks.py": {"Desk": {
+        "__init__": SELF, "see": "self, day", "depth": SELF, "__len__": SELF, "__iter__": SELF, "__contains__": "self, x",
+        "begin": "self, name, service=None", "enter": "self, name, rows", "__iadd__": TWO, "amend": "self, name, place, row",
+        "__getitem__": "self, at", "__setitem__": "self, at, worth", "strike": "self, name, place",
+        "deliver": "self, name, pages, opening, closing, *, most=0", "post": "self, name, plan, batch",
+        "file": "self, name, question", "withdraw": "self, name", "together": "self, deeds", "undo": SELF, "book_of": "self, name",
+        "store_of": "self, name", "questions": SELF, "value": "self, name", "lines": SELF, "trial": SELF, "tried": "self, deeds",
+    }},
+    "papers/kinds.py": {
+        "Paper": {"read": "text"}, "OrderPaper": {"__init__": "self, order, prices", **PAPER},
+        "BasisPaper": {"__init__": "self, books, start, shadows", **PAPER}, "PartingPaper": {"__init__": "self, book", **PAPER},
+        "SourcesPaper": {"__init__": "self, constant, weights", **PAPER}, "MixturePaper": {"__init__": "self, weights", **PAPER},
+        "BarPaper": {"__init__": "self, bar", **PAPER},
+    },
 }
 # Methods that are not plain, by their names, in all classes or in one.
 DECORATED = {"read": "classmethod", "of": "classmethod", "added": "staticmethod", "opening": "property",
@@ -177,7 +209,8 @@ DECORATED = {"read": "classmethod", "of": "classmethod", "added": "staticmethod"
              "ranked": "property", "straight": "property", "total": "property", "present": "property",
              "share": "staticmethod", "zero": "classmethod", "last_seat": "staticmethod", "empty": "classmethod",
              "sequence": "property", "done": "property", "refused": "property", "skipped": "property",
-             "entered": "property", "batch": "property", "Step.read": "staticmethod", "taken": "property", "figure": "property"}
+             "entered": "property", "batch": "property", "Step.read": "staticmethod", "Paper.read": "staticmethod",
+             "depth": "property", "taken": "property", "figure": "property"}
 
 
 def defined(body, kind):
@@ -207,6 +240,16 @@ class InterfaceTest(unittest.TestCase):
                         mark = DECORATED.get(f"{kind}.{method}", DECORATED.get(method))
                         marks = [] if mark is None else [mark]
                         self.assertEqual(marks, [ast.unparse(mark) for mark in body[method].decorator_list])
+
+    def test_the_day_of_a_desk(self):
+        body = defined(tree_of("desk/desks.py").body, ast.ClassDef)["Desk"].body
+        found = [node for node in body if isinstance(node, ast.FunctionDef) and node.name == "day"]
+        self.assertEqual(["self", "self, value"], [ast.unparse(node.args) for node in found])
+        self.assertEqual([["property"], ["day.setter"]], [[ast.unparse(mark) for mark in node.decorator_list] for node in found])
+
+    def test_kinds_of_papers(self):
+        classes = [node for node in tree_of("papers/kinds.py").body if isinstance(node, ast.ClassDef)]
+        self.assertEqual(["Paper"] * 6, [ast.unparse(node.bases[0]) for node in classes[1:]])
 
 
 if __name__ == "__main__":

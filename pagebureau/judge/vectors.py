@@ -37,12 +37,16 @@ def product_of(vector, other):
     return sum([number * other[at] for at, number in vector.items() if at in other])
 
 
+def plain_number(frac):
+    """A Frac as an integer if it is whole."""
+    return frac.top if frac.bottom == 1 else frac
+
+
 def divided(number, divisor):
     """The quotient of two numbers, an integer if it is whole."""
     if divisor == 1 or divisor == -1:
         return number * divisor
-    quotient = Frac(1).over(divisor) * number
-    return quotient.top if quotient.bottom == 1 else quotient
+    return plain_number(Frac(1).over(divisor) * number)
 
 
 def turned(rows):

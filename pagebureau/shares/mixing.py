@@ -9,7 +9,7 @@ from pagebureau.shares.comparing import first_other_than_zero
 from pagebureau.shares.formulas import Formula, check_size
 
 
-def _mixture(formulas, factors):
+def mixture_of(formulas, factors):
     total = Formula.zero()
     for formula, factor in zip(formulas, factors):
         if factor != 0:
@@ -21,7 +21,7 @@ def _rest_of(formulas, at, corners):
     """The factors of what is left of a formula, so that it is 0 on the tables of the corners."""
     rest = [Frac(int(other == at)) for other in range(len(formulas))]
     for factors, table in corners:
-        value = _mixture(formulas, rest)(table)
+        value = mixture_of(formulas, rest)(table)
         rest = [one - value * other for one, other in zip(rest, factors)]
     return rest
 
@@ -31,7 +31,7 @@ def _corners_of(formulas):
     corners = []
     for at in range(len(formulas)):
         rest = _rest_of(formulas, at, corners)
-        left = _mixture(formulas, rest)
+        left = mixture_of(formulas, rest)
         table = first_other_than_zero(left)
         if table is not None:
             corners.append(([factor.over(left(table)) for factor in rest], table))
@@ -64,7 +64,7 @@ def bar(wanted, told):
     # off what the corner adds up to on the tables behind.
     pairs = [(corners[-1][0][-1], corners[-1][1])]
     for factors, table in corners[-2::-1]:
-        mixed = _mixture([*told, wanted], factors)
+        mixed = mixture_of([*told, wanted], factors)
         total = Frac.added([factor * mixed(other) for factor, other in pairs])
         pairs = [(-total, table), *pairs]
     return [(factor, table) for factor, table in pairs if factor != 0]

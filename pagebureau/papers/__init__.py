@@ -1,0 +1,1 @@
+"""Papers: evidence for answers, which can be examined."""
