@@ -98,6 +98,20 @@ class SmallBooksTest(MoveCase):
         self.assertLess(5, found.count(None))
         self.assertLess(5, len(found) - found.count(None))
 
+    def test_reports_that_fill_up(self):
+        # Amounts come to a row from below the change, and other ones than those of the book.
+        source = random.Random(1209)
+        found = []
+        for report in plain_reports(1210, 90):
+            before = source.choice(("times 3", "times -2", "against a b", "against abcdef a\ntimes 2", "fill down rows 1", "keep over: full", "sift ab"))
+            fill = f"fill up rows {source.choice((1, 1, 2, 3))}" + source.choice(("", " halt a", " halt abcdef"))
+            steps = [step.text() for step in report.pipeline][:1]
+            filled = Report.read("\n".join([before, fill, *steps, f"{source.choice(('sum', 'last', 'full'))} {source.choice(('a', 'ab', 'abcdef'))}"]))
+            if effort(filled) ** 2 <= 4000:
+                low = source.choice((-2, -1, 0, 1))
+                found.append(self.check(filled, source.choice(("late", "doubled")), low, low + source.choice((0, 1, 3))))
+        self.assertLess(30, len([most for most, least in found if most == least and most != 0]))
+
     def test_all_amounts_between_the_bounds(self):
         for report in plain_reports(1203, 25):
             if len(mark_classes(report)) <= 2:
@@ -131,6 +145,8 @@ class ToldMovesTest(MoveCase):
             ("times 3\nsum a", 1, 2, 0, 6), ("times -1000\nsum a", -2, 1, 0, 2000), ("times 0\nsum a", 5, 9, 0, 0), ("fill drop\ncount a", 0, 0, 0, 1),
             ("against a b\nsum ab", 0, 9, 0, 9), ("against a b\nsum b", 0, 9, 0, 9), ("against a b\nlast ab", 1, 1, 2, 0), ("fill down rows 1\nsum abcdef", 0, 3, 3, 3), ("fill down rows 1\nfull abcdef", 0, 3, 1, 1),
             ("fill down\nlast a", 0, 3, 3, 0), ("fill down rows 2\nfull abcdef", 0, 3, 1, 1), ("fill down\nfull a", 0, 3, 1, 1), ("fill up rows 1\nsum abcdef", 1, 1, 1, 1),
+            ("times 3\nfill up rows 1\nsum a", 1, 1, 3, 3), ("fill down\ntimes -2\nfill up rows 2\nlast a", 1, 2, 4, 4), ("fill up rows 2\nlast a", 1, 1, 1, 1),
+            ("against a b\ntimes 5\nfill up rows 2\nsum ab", 1, 1, 10, 5), ("fill up rows 1\nfill up rows 1\nfull a", 1, 1, 1, 1),
             ("rename abc d\nlast d", 7, 9, 2, 0), ("keep first: full\ndays a", 0, 0, 1, 0), ("fill down\nfill drop\ncount b", 0, 0, 1, 1),
         ]:
             report = Report.read(text)

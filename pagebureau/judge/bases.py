@@ -8,7 +8,7 @@ from pagebureau.judge.vectors import Frame, product_of
 
 def as_frac(number):
     """A number as a Frac."""
-    return Frac(1) * number
+    return number if isinstance(number, Frac) else Frac(number)
 
 
 class Basis:
@@ -26,7 +26,8 @@ class Basis:
         return iter(self._books)
 
     def _shadow_of(self, vector):
-        return [as_frac(number) for number in self._growth.shadow(vector)]
+        zero = Frac()
+        return [zero if number == 0 else as_frac(number) for number in self._growth.shadow(vector)]
 
     def shadow(self, book):
         return self._shadow_of(self._machine.after_book(book))

@@ -2,6 +2,7 @@
 
 `links` has for each stop the list of its links: tuples of the next stop, of what the link
 counts, and of anything else. `ends` has for each stop the list of what ending there counts.
+All that is counted is taken times a sign, 1 or -1.
 """
 
 
@@ -83,20 +84,16 @@ def _ring_through(before, start):
     return found[::-1]
 
 
-def counted(links):
-    """What some links count together."""
-    return sum([link[1] for link in links])
-
-
 class Longest:
     """The ways that count most, on links that are trimmed.
 
     `most` is what they count with their ends, None if there is no bound.
     """
 
-    def __init__(self, links, ends):
+    def __init__(self, links, ends, sign):
         self._links = links
         self._ends = ends
+        self._sign = sign
         self._best = {0: 0}
         # For each stop the stop before it on the best way to it, and the link from there.
         self._before = {0: None}
@@ -112,15 +109,23 @@ class Longest:
         later = {}
         for stop in changed:
             for link in self._links[stop]:
-                total = self._best[stop] + link[1]
+                total = self._best[stop] + self._sign * link[1]
                 if link[0] not in self._best or total > self._best[link[0]]:
                     self._best[link[0]] = total
                     self._before[link[0]] = (stop, link)
                     later[link[0]] = True
         return list(later)
 
+    def _counted(self, links):
+        """What some links count together."""
+        return self._sign * sum([link[1] for link in links])
+
+    def _end_of(self, stop):
+        """What ending at a stop counts at most."""
+        return max([int(self._sign * end) for end in self._ends[stop]])
+
     def _value_at(self, stop):
-        return self._best[stop] + max([int(end) for end in self._ends[stop]])
+        return self._best[stop] + self._end_of(stop)
 
     def _most(self):
         if self._ring is not None:
@@ -144,7 +149,7 @@ class Longest:
         head = shortest_way(self._links, 0, {ring_stop: True})
         tail = shortest_way(self._links, ring_stop, goals)
         last = tail[-1][0] if tail else ring_stop
-        alone = counted(head) + counted(tail) + max([int(end) for end in self._ends[last]])
-        gain = counted(self._ring)
+        alone = self._counted(head) + self._counted(tail) + self._end_of(last)
+        gain = self._counted(self._ring)
         rounds = max(0, (count - alone + gain - 1) // gain)
         return head + self._ring * rounds + tail

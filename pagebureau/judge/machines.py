@@ -9,7 +9,7 @@ amounts, each times a number; so the matrices of a mark and "*" lead from degree
 
 from pagebureau.base.marks import Marks
 from pagebureau.judge.letters import amount_of, classes_of
-from pagebureau.judge.vectors import product_of, times_rows, turned
+from pagebureau.judge.vectors import product_of, times_rows, turned, without_zeros
 from pagebureau.judge.ways import NEW_DAY
 
 
@@ -55,7 +55,7 @@ class Machine:
         if amount != 0:
             for at, number in times_rows(vector, self.matrices[f"{stands}*"]).items():
                 found[at] = found.get(at, 0) + amount * number
-        return {at: number for at, number in found.items() if number != 0}
+        return without_zeros(found)
 
     def after_letter(self, vector, letter):
         """The vector behind the row of a letter."""
@@ -90,7 +90,7 @@ class Machine:
         if amount == "1":
             for at, number in times_rows(result, self.columns(f"{mark}*")).items():
                 found[at] = found.get(at, 0) + number
-        found = {at: number for at, number in found.items() if number != 0}
+        found = without_zeros(found)
         return found if letter[0] == "=" else times_rows(found, self.columns(NEW_DAY))
 
 

@@ -1,8 +1,9 @@
 """Moves: how far a late or a doubled row can move a figure.
 
-A stop is a tuple of a place in the web and its tally before the change. Behind it, it is a
-tuple of the place and the tally of the book, and of those of the changed book. Both read the
-same rows behind the change. A step from stop to stop adds to the change of the figure.
+A stop is a tuple of whether it is behind the change, and of two halves: where the book is in
+the web, with its tally, and where the changed book is. Both read the same rows before and
+behind the change. What a step has guessed of rows that come may differ already before it. A link from
+stop to stop adds to the change of the figure.
 """
 
 from pagebureau.base.errors import BadBounds, BadWay, NotPlain
@@ -30,6 +31,56 @@ def _is_bound(thing):
     return is_plain_integer(thing) and -_BEYOND < thing < _BEYOND
 
 
+class Halves:
+    """The halves of stops: pairs of a place in the web and a tally, which are numbered as they come."""
+
+    def __init__(self, report, amounts):
+        self._report = report
+        known = representatives([report.pipeline], [report.marks])
+        self._web = Web(report.pipeline, known, [amount for amount in amounts if amount is not None])
+        marks = [letters[0] for letters in mark_classes(report)]
+        self.all_rows = [(day, mark, amount) for day in "+=" for mark in marks for amount in amounts]
+        self._pairs = []
+        self._numbers = {}
+        self.first = self._number(self._web.first_place, first_tally(report.word))
+        self._known_after = {}
+        self._known_ends = {}
+
+    def _number(self, place, tally):
+        if (place, tally) not in self._numbers:
+            self._numbers[place, tally] = len(self._pairs)
+            self._pairs.append((place, tally))
+        return self._numbers[place, tally]
+
+    def after(self, half):
+        """For each row the list of the halves behind it, each with what the row adds to the figure."""
+        if half not in self._known_after:
+            self._known_after[half] = [self._after_row(half, row) for row in self.all_rows]
+        return self._known_after[half]
+
+    def _after_row(self, half, row):
+        place, tally = self._pairs[half]
+        found = []
+        for after, signs in self._web.after(place, row):
+            tally_after, more = tallied(self._report, tally, signs)
+            found.append((self._number(after, tally_after), more))
+        return found
+
+    def after_rows(self, half, numbers):
+        """The list of the halves behind the rows with some numbers, each with what they add to the figure."""
+        found = [(half, 0)]
+        for number in numbers:
+            found = [(after, so_far + more) for each, so_far in found for after, more in self.after(each)[number]]
+        return found
+
+    def ends(self, half):
+        """The list of what the rows that can come out at the end add to the figure."""
+        if half not in self._known_ends:
+            place, tally = self._pairs[half]
+            self._known_ends[half] = [tallied(self._report, tally, signs)[1] for signs in self._web.ends(place)]
+        return self._known_ends[half]
+
+
 class MoveWeb:
     """The stops of a move, their links and their ends.
 
@@ -38,21 +89,17 @@ class MoveWeb:
     """
 
     def __init__(self, report, way, amounts):
-        self._report = report
-        self._way = way
-        known = representatives([report.pipeline], [report.marks])
-        self._web = Web(report.pipeline, known, [amount for amount in amounts if amount is not None])
-        marks = [letters[0] for letters in mark_classes(report)]
-        self._rows = [(day, mark, amount) for day in "+=" for mark in marks for amount in amounts]
+        self._halves = Halves(report, amounts)
+        self._changes = _late_rows(self._halves.all_rows) if way == "late" else _doubled_rows(self._halves.all_rows)
         self._stops = []
         self._numbers = {}
-        self._number((self._web.first_place, first_tally(report.word)))
+        self._number((False, self._halves.first, self._halves.first))
         self.links = []
         self.endings = []
         while len(self.links) < len(self._stops):
-            stop = self._stops[len(self.links)]
-            self.links.append(self._links_before(stop) if len(stop) == 2 else self._links_behind(stop))
-            self.endings.append([] if len(stop) == 2 else self._ends_behind(stop))
+            is_behind, half, changed = self._stops[len(self.links)]
+            self.links.append(self._links_behind(half, changed) if is_behind else self._links_before(half, changed))
+            self.endings.append(self._ends_behind(half, changed) if is_behind else [])
 
     def _number(self, stop):
         if stop not in self._numbers:
@@ -60,73 +107,61 @@ class MoveWeb:
             self._stops.append(stop)
         return self._numbers[stop]
 
-    def _halves(self, half, rows):
-        """The list of the places and tallies behind some rows, each with what the rows add to the figure."""
-        place, tally = half
-        found = [(place, tally, 0)]
-        for row in rows:
-            found = [longer for some in found for longer in self._halves_at(some, row)]
-        return found
-
-    def _halves_at(self, half, row):
-        """The places and tallies behind a row, with what has been added to the figure so far."""
-        place, tally, so_far = half
+    def _links_before(self, half, changed):
+        after, changed_after = self._halves.after(half), self._halves.after(changed)
         found = []
-        for after, signs in self._web.after(place, row):
-            tally_after, more = tallied(self._report, tally, signs)
-            found.append((after, tally_after, so_far + more))
-        return found
+        for row, halves, changed_halves in zip(self._halves.all_rows, after, changed_after):
+            found.extend(self._links_of(False, halves, changed_halves, [row]))
+        for numbers, changed_numbers in self._changes:
+            halves = self._halves.after_rows(half, numbers)
+            changed_halves = self._halves.after_rows(changed, changed_numbers)
+            rows = [self._halves.all_rows[number] for number in numbers]
+            found.extend(self._links_of(True, halves, changed_halves, rows))
+        return _different(found)
 
-    def _links_before(self, stop):
-        found = []
-        for row in self._rows:
-            for place, tally, _ in self._halves(stop, [row]):
-                found.append((self._number((place, tally)), 0, [row], True))
-        for rows, changed in self._changes():
-            found.extend(self._links_of(self._halves(stop, rows), self._halves(stop, changed), rows))
-        return found
-
-    def _changes(self):
-        """The list of the pairs of the rows that are changed, and of what they become."""
-        if self._way == "doubled":
-            return [([row], [row, ("=", *row[1:])]) for row in self._rows]
+    def _links_of(self, is_behind, halves, changed_halves, rows):
+        """The links to all stops with one of some halves, and one of some changed halves."""
         return [
-            ([first, second], [(first[0], *second[1:]), ("=", *first[1:])])
-            for first in self._rows for second in self._rows if second[0] == "=" and first[1:] != second[1:]
+            (self._number((is_behind, half, changed)), changed_more - more, rows, not is_behind)
+            for half, more in halves for changed, changed_more in changed_halves
         ]
 
-    def _links_of(self, halves, changed_halves, rows):
-        """The links to all stops with one of some halves, and one of some changed halves."""
+    def _links_behind(self, half, changed):
+        after, changed_after = self._halves.after(half), self._halves.after(changed)
         found = []
-        for place, tally, more in halves:
-            for changed_place, changed_tally, changed_more in changed_halves:
-                stop = (place, tally, changed_place, changed_tally)
-                found.append((self._number(stop), changed_more - more, rows, False))
-        return found
-
-    def _links_behind(self, stop):
-        half, changed = stop[:2], stop[2:]
-        found = []
-        for row in self._rows:
-            halves = self._halves(half, [row])
+        for row, halves, changed_halves in zip(self._halves.all_rows, after, changed_after):
             if half != changed:
-                found.extend(self._links_of(halves, self._halves(changed, [row]), [row]))
+                found.extend(self._links_of(True, halves, changed_halves, [row]))
             else:
-                # Of two ways from one place only one can come true.
+                # The same rows come to both, and of two ways from one half only one can come true.
                 for each in halves:
-                    found.extend(self._links_of([each], [each], [row]))
-        return found
+                    found.extend(self._links_of(True, [each], [each], [row]))
+        return _different(found)
 
-    def _ends_behind(self, stop):
-        place, tally, changed_place, changed_tally = stop
-        ends = [tallied(self._report, tally, signs)[1] for signs in self._web.ends(place)]
-        changed = [tallied(self._report, changed_tally, signs)[1] for signs in self._web.ends(changed_place)]
-        return [other - end for end in ends for other in changed]
+    def _ends_behind(self, half, changed):
+        ends, changed_ends = self._halves.ends(half), self._halves.ends(changed)
+        return [other - end for end in ends for other in changed_ends]
 
 
-def _turned(links):
-    """The links that count the opposite."""
-    return [[(link[0], -link[1], *link[2:]) for link in some] for some in links]
+def _different(links):
+    """Of the links to one stop that add the same, one."""
+    found = {link[:2]: link for link in links}
+    return list(found.values())
+
+
+def _doubled_rows(rows):
+    """The pairs of the numbers of a row, and of the row and its copy."""
+    return [([at], [at, rows.index(("=", *row[1:]))]) for at, row in enumerate(rows)]
+
+
+def _late_rows(rows):
+    """The pairs of the numbers of two rows of one day, and of the two when they are exchanged."""
+    found = []
+    for at, first in enumerate(rows):
+        for place, second in enumerate(rows):
+            if second[0] == "=" and first[1:] != second[1:]:
+                found.append(([at, place], [rows.index((first[0], *second[1:])), rows.index(("=", *first[1:]))]))
+    return found
 
 
 def _longest_ways(report, way, low, high):
@@ -136,7 +171,7 @@ def _longest_ways(report, way, low, high):
         amounts = [None, low, high]
     web = MoveWeb(report, way, amounts)
     links = trimmed(web.links, web.endings)
-    return [Longest(links, web.endings), Longest(_turned(links), [[-end for end in some] for some in web.endings])]
+    return [Longest(links, web.endings, sign) for sign in (1, -1)]
 
 
 class Move:

@@ -6,8 +6,17 @@ A vector is a dict from integers, its indexes, to numbers other than 0.
 from pagebureau.base.fracs import Frac
 
 
+def plain_number(frac):
+    """A Frac as an integer if it is whole."""
+    return frac.top if frac.bottom == 1 else frac
+
+
 def without_zeros(vector):
-    return {at: number for at, number in vector.items() if number != 0}
+    """The vector without entries of 0, and with integers in place of whole Fracs, which are slow."""
+    return {
+        at: number if isinstance(number, int) else plain_number(number)
+        for at, number in vector.items() if number != 0
+    }
 
 
 def put(vector, at, number):
@@ -35,11 +44,6 @@ def minus(vector, times, other):
 def product_of(vector, other):
     """The sum of the products of the entries of both."""
     return sum([number * other[at] for at, number in vector.items() if at in other])
-
-
-def plain_number(frac):
-    """A Frac as an integer if it is whole."""
-    return frac.top if frac.bottom == 1 else frac
 
 
 def divided(number, divisor):

@@ -6,6 +6,7 @@ here: "+" and None where a new day begins, or a mark and an amount. A course is 
 place and the tuple of the signs that have come out on the way to it.
 """
 
+from pagebureau.flows.steps import Against, Times
 from pagebureau.judge.ways import NEW_DAY, ways_of
 
 _BEGIN = (None, 0, None)
@@ -18,13 +19,30 @@ def _name_of(sign):
     return f"{sign[0]}{'.' if sign[1] is None else '0'}"
 
 
+def _amounts_behind(step, amounts):
+    """The amounts that a step other than `run`, `change` and `total` can make of some amounts."""
+    if isinstance(step, Times):
+        return sorted(set([amount * step.factor for amount in amounts]))
+    if isinstance(step, Against):
+        return sorted(set([*amounts, *[-amount for amount in amounts]]))
+    return amounts
+
+
 class Web:
-    """The web of a straight pipeline, in which `fill up` can promise each of some amounts."""
+    """The web of a straight pipeline that is given rows with some amounts, or empty ones.
+
+    A `fill up` can promise each amount that can come to it. If the pipeline has a `run`, a
+    `change` or a `total`, all amounts are 0, so that they stay 0.
+    """
 
     def __init__(self, pipeline, known, amounts):
         self._ways = [ways_of(step) for step in pipeline]
         self._known = known
-        self._amounts = amounts
+        # For each step the amounts that can come to it.
+        self._amounts = []
+        for step in pipeline:
+            self._amounts.append(amounts)
+            amounts = _amounts_behind(step, amounts)
         self.first_place = tuple([_BEGIN for _ in self._ways])
         self._courses = {}
 
@@ -49,7 +67,7 @@ class Web:
             for inside, passed in courses:
                 deeds = self._ways[at].last_deeds(inside[0])
                 if deeds is not None:
-                    found.extend([(*passed, *last) for _, last in self._done(inside, None, deeds, None)])
+                    found.extend([(*passed, *last) for _, last in self._done(at, inside, None, deeds, None)])
         return found
 
     def _through(self, at, inside, signs):
@@ -67,14 +85,14 @@ class Web:
         if key not in self._courses:
             ways = self._ways[at].ways(inside[0], _name_of(sign))
             self._courses[key] = [
-                course for state, deeds in ways for course in self._done(inside, state, deeds, sign[1])
+                course for state, deeds in ways for course in self._done(at, inside, state, deeds, sign[1])
             ]
         return self._courses[key]
 
-    def _done(self, inside, state, deeds, amount):
+    def _done(self, at, inside, state, deeds, amount):
         """The courses of a step that does some deeds on the way to a state, one for each amount it can promise."""
         _, held, promised = inside
-        choices = self._amounts if ("promise",) in deeds else [promised]
+        choices = self._amounts[at] if ("promise",) in deeds else [promised]
         courses = [self._done_with(held, choice, state, deeds, amount) for choice in choices]
         return [course for course in courses if course is not None]
 
