@@ -1,8 +1,9 @@
 import random
+import sys
 import unittest
 from itertools import product
 
-from judge_search import ALL, has_form, random_step, small_books, small_set
+from judge_search import ALL, has_form, random_set, random_step, small_books, small_set
 from shares_search import random_told, shared
 from support import BureauCase
 
@@ -17,16 +18,29 @@ from pagebureau.shares.formulas import Formula
 from pagebureau.shares.tables import Table
 
 
-def random_pipelines(seed, many, most=3):
-    """Straight pipelines of small efforts."""
+def random_pipelines(seed, many, most=3, some_set=small_set, marks="abc"):
+    """Straight pipelines of efforts that are not too large."""
     source = random.Random(seed)
     found = []
     while len(found) < many:
-        steps = [random_step(source, small_set, "abc") for _ in range(source.randint(0, most))]
+        steps = [random_step(source, some_set, marks) for _ in range(source.randint(0, most))]
         pipeline = Pipeline.read("\n".join(steps)) if steps else Pipeline()
         if pipeline_effort(pipeline) <= 4000:
             found.append(pipeline)
     return found
+
+
+def calls_in(call, *given):
+    """How many functions run in a call."""
+    found = []
+    sys.setprofile(lambda frame, event, value: found.append(frame) if event == "call" else None)
+    try:
+        call(*given)
+    except NotFree:
+        pass
+    finally:
+        sys.setprofile(None)
+    return len(found)
 
 
 def left_of_small_books(pipeline, most, marks):
@@ -68,6 +82,34 @@ class ComingTest(BureauCase):
             "keep last: full, in b\nagainst bc c\nkeep hold: -\nsift cd", "keep over: full\nfill down rows 1\nfill drop\nrename a f",
         ):
             self.check(Pipeline.read(text), 3)
+
+    def test_marks_that_come_and_their_books(self):
+        # Each answer is found in a way of its own, so that they hold against each other.
+        for pipeline in random_pipelines(1194, 150, 4, random_set, ALL):
+            marks = coming(pipeline)
+            self.assertEqual(marks, Marks("".join(mark for mark in ALL if coming_book(pipeline, mark) is not None)), pipeline.text())
+            units = Marks("".join(mark for mark in ALL if unit_book(pipeline, mark) is not None))
+            self.assertTrue(units <= marks)
+            self.assertIs(units == marks, is_free(pipeline), pipeline.text())
+            bound = list(marks - units)
+            if bound:
+                self.assert_raises(NotFree, (bound[0],), parting_sheets, pipeline, shared("a", "a"), shared("a", "ab"))
+            else:
+                parting_sheets(pipeline, shared("a", "a"), shared("a", "ab"))
+
+    def test_answers_take_few_calls(self):
+        one, other = shared("a", "ab"), shared("b", "abc")
+        for text, marks, free in [
+            ("against ade e\nkeep over: in cf, in def\ntimes 1\nrun", "bcdef", True),
+            ("against abcf a\nkeep over: full, in bcf\nagainst abde f", "abcdef", False), ("fill down halt aef\nkeep last: full, in bcd", "abcdef", True),
+            ("keep over: in ab\nkeep hold: in ac\nkeep first: full, in b\nrun", "abcdef", True),
+            ("fill up rows 3 halt bc\nfill down halt de\nagainst ab c\nfill drop", "abcdef", False), ("", "abcdef", True),
+        ]:
+            pipeline = Pipeline.read(text)
+            self.assertEqual((marks, free), (coming(pipeline).text(), is_free(pipeline)), text)
+            for call in (coming, is_free):
+                self.assertLess(calls_in(call, pipeline), 6000, text)
+            self.assertLess(calls_in(parting_sheets, pipeline, one, other), 16000, text)
 
     def test_told_cases(self):
         for text, marks, units in [

@@ -113,6 +113,16 @@ class EffortTest(BureauCase):
         self.assertEqual(2 * 3 * 4 * 2, effort(one, other, days))
         self.assertEqual(1, effort())
 
+    def test_fill_up(self):
+        # Ends of one report for each number of classes, from 1 to 6.
+        ends = ("count -", "count a", "sift a\ncount b", "sift a\nsift b\ncount c", "sift a\nsift b\nsift c\ncount d", "sift a\nsift b\nsift c\nsift d\ncount e")
+        for rows in (1, 2, 3):
+            for at, end in enumerate(ends):
+                self.assertEqual((2 * (at + 1)) ** rows, effort(Report.read(f"fill up rows {rows}\n{end}")), (rows, end))
+            self.assertEqual(12 ** rows, pipeline_effort(Pipeline.read(f"fill up rows {rows}")))
+            self.assertEqual(12 ** rows, pipeline_effort(Pipeline.read(f"run\nfill up rows {rows} halt ab\nsift a")))
+            self.assertEqual(12 ** rows * 12 ** 2, pipeline_effort(Pipeline.read(f"fill up rows {rows}\nfill up rows 2")))
+
     def test_pipelines(self):
         source = random.Random(1142)
         self.assertEqual(1, pipeline_effort(Pipeline()))

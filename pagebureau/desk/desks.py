@@ -43,7 +43,7 @@ class Desk:
         is_day = is_plain_integer(day) and 0 <= day <= LAST_DAY
         if day is not None and not is_day:
             raise BadDay(day)
-        self._history.seen = day
+        self._history.look_until(day)
 
     @property
     def depth(self):
@@ -117,14 +117,14 @@ class Desk:
     def questions(self):
         return list(self._history.holdings.questions_by_name)
 
-    def _books(self):
+    def _shown_books(self):
         """The books of all accounts, up to the day."""
         books = [account.book for account in self._history.accounts.values()]
         return books if self.day is None else [book.until(self.day) for book in books]
 
     def value(self, name):
         question = question_of(self._history.holdings, name)
-        return question.on(self._books()) if isinstance(question, Report) else question(self._books())
+        return question.on(self._shown_books()) if isinstance(question, Report) else question(self._shown_books())
 
     def _values(self):
         return [self.value(name) for name in self.questions()]

@@ -92,6 +92,10 @@ class History:
         self.accounts = self.holdings.accounts
         self.past = self.past.past
 
+    def look_until(self, day):
+        """Sets the last day that is seen, None for all days."""
+        self.seen = day
+
     def many_deeds(self):
         """The number of the deeds that can be undone."""
         return 0 if self.past is None else self.past.many

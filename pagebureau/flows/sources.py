@@ -12,7 +12,7 @@ from pagebureau.flows.steps import Change, Run, Times, Total
 
 def _with_amounts(rows, amounts):
     """The book of the rows in which the full ones have other amounts."""
-    pairs = zip(rows, amounts)
+    pairs = list(zip(rows, amounts))
     return Book([(day, mark, None if old is None else new) for (day, mark, old), new in pairs])
 
 

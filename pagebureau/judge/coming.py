@@ -7,6 +7,7 @@ from pagebureau.judge.fronts import report_machine
 from pagebureau.judge.growth import first_book
 from pagebureau.judge.letters import book_of_rows, check_effort, letters_of, pipeline_effort
 from pagebureau.judge.machines import representatives
+from pagebureau.judge.outlets import Outlet
 from pagebureau.judge.webs import Web
 from pagebureau.judge.ways import NEW_DAY
 from pagebureau.shares.comparing import parting_table
@@ -24,13 +25,9 @@ def _first_with(pipeline, mark):
     return first_book(machine, letters_of(report), lambda results: results[0] != 0)
 
 
-def _coming(pipeline):
-    return Marks("".join([mark for mark in Marks.ALL if _first_with(pipeline, mark) is not None]))
-
-
 def coming(pipeline):
     _check_pipeline(pipeline)
-    return _coming(pipeline)
+    return Outlet(pipeline).coming()
 
 
 def coming_book(pipeline, mark):
@@ -104,29 +101,24 @@ def unit_book(pipeline, mark):
     return UnitSearch(pipeline, mark).shortest()
 
 
-def _least_bound(pipeline, marks):
-    """The least of some marks that has no unit book, None if each has one."""
-    for mark in marks:
-        if UnitSearch(pipeline, mark).shortest() is None:
-            return mark
-    return None
-
-
 def is_free(pipeline):
     _check_pipeline(pipeline)
-    return _least_bound(pipeline, _coming(pipeline)) is None
+    outlet = Outlet(pipeline)
+    return outlet.coming() == outlet.alone()
 
 
 def parting_sheets(pipeline, first, second):
     _check_sheets(pipeline, first, second)
-    marks = _coming(pipeline)
-    bound = _least_bound(pipeline, marks)
-    if bound is not None:
-        raise NotFree(bound)
+    outlet = Outlet(pipeline)
+    marks = outlet.coming()
+    bound = list(marks - outlet.alone())
+    if bound:
+        raise NotFree(bound[0])
     table = parting_table(first & marks, second & marks)
     if table is None:
         return None
-    return [UnitSearch(pipeline, mark).shortest() for mark in marks for _ in range(table[mark])]
+    books = [[unit_book(pipeline, mark)] * table[mark] for mark in marks if table[mark] > 0]
+    return [book for some in books for book in some]
 
 
 def _check_sheets(pipeline, first, second):

@@ -9,7 +9,9 @@ from pagebureau.judge.ways import NEW_DAY, ways_of
 # The parts of the vector of a front, for each state of the step: the vector of the machine; what
 # it is, in its entries of degree 0, times the held amount; and what it gets in its entries of
 # degree 1 for each 1 of the promised amount.
-_PLAIN, _HELD, _PROMISED = 0, 1, 2
+_PLAIN = 0
+_HELD = 1
+_PROMISED = 2
 
 
 class Front:

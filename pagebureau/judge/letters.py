@@ -69,10 +69,18 @@ def book_of_letters(letters):
     return book_of_rows([(letter[0], letter[1], amount_of(letter)) for letter in letters])
 
 
+def _power(number, times):
+    """The product of a number taken so many times."""
+    product = 1
+    for _ in range(times):
+        product = product * number
+    return product
+
+
 def _effort_of_fill(limits, count):
     way, rows, _ = limits
     if way == "up":
-        return (2 * count) ** rows
+        return _power(2 * count, rows)
     if way == "down":
         return 2 if rows is None else rows + 2
     return 1

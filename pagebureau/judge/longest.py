@@ -15,24 +15,25 @@ def _sources_of(links):
     return found
 
 
-def _with_an_end(links, ends):
+def with_an_end(links, ends):
     """The dict of the stops from which a way leads to an end."""
     before = _sources_of(links)
     waiting = [stop for stop, some in enumerate(ends) if some]
     found = {stop: True for stop in waiting}
     at = 0
     while at < len(waiting):
-        for stop in before[waiting[at]]:
-            if stop not in found:
-                found[stop] = True
-                waiting.append(stop)
+        stop = waiting[at]
         at = at + 1
+        for source in before[stop]:
+            if source not in found:
+                found[source] = True
+                waiting.append(source)
     return found
 
 
 def trimmed(links, ends):
     """The links that lie on a way to an end."""
-    ending = _with_an_end(links, ends)
+    ending = with_an_end(links, ends)
     return [[link for link in some if link[0] in ending] for some in links]
 
 
@@ -42,11 +43,12 @@ def shortest_way(links, start, goals):
     waiting = [start]
     at = 0
     while waiting[at] not in goals:
-        for link in links[waiting[at]]:
-            if link[0] not in before:
-                before[link[0]] = (waiting[at], link)
-                waiting.append(link[0])
+        stop = waiting[at]
         at = at + 1
+        for link in links[stop]:
+            if link[0] not in before:
+                before[link[0]] = (stop, link)
+                waiting.append(link[0])
     return _way_back(before, waiting[at])
 
 
