@@ -274,6 +274,41 @@ def odd_stars(trees):
     return found
 
 
+def odd_keywords(trees):
+    """Keywords of builtins and of methods of builtin values that they do not take here, and barred ones of any call."""
+    allowed = {"sorted": {"key", "reverse"}, "min": {"key", "default"}, "max": {"key", "default"}, "sum": {"start"}, "enumerate": {"start"}, "zip": {"strict"}}
+    own = Names(trees)
+    found = []
+    for name, node in nodes_in(trees, ast.Call):
+        told = {each.arg for each in node.keywords}
+        taken = told
+        if isinstance(node.func, ast.Name) and node.func.id in ALL_BUILTINS:
+            taken = allowed.get(node.func.id, set())
+        elif isinstance(node.func, ast.Attribute) and (node.func.attr in BUILTIN_METHODS or node.func.attr not in own.methods | own.statics | {"__init__"}):
+            taken = set()
+        if told - taken or told & {"self", "open", "input"}:
+            found.append((name, node.lineno))
+    return found
+
+
+def methods_as_values(trees):
+    """Methods that are read without calling them, off a class though they are plain, or properties that are called."""
+    parents = parents_in(trees)
+    names = Names(trees)
+    own = {node.name for _, node in nodes_in(trees, ast.ClassDef)}
+    found = []
+    for name, node in nodes_in(trees, ast.Attribute):
+        parent = parents[node]
+        called = isinstance(parent, ast.Call) and parent.func is node
+        decorator = isinstance(parent, ast.FunctionDef)
+        off_class = isinstance(node.value, ast.Name) and node.value.id in own
+        if node.attr in names.methods | names.statics | BUILTIN_METHODS and not called:
+            found.append((name, node.lineno))
+        if (node.attr in names.properties | names.values and called) or (off_class and node.attr in names.methods | names.properties and not decorator):
+            found.append((name, node.lineno))
+    return found
+
+
 def odd_strings(trees):
     """Strings with signs, ends or words that no string has, and f-strings over several rows or with others inside."""
     found = []

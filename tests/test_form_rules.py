@@ -154,6 +154,21 @@ class FormRulesTest(unittest.TestCase):
              ["def f(d):", " return g(**{'a': 1})"], ["class Box:", " @property", " def rows(self):", "  return []", "def f(box):", " return g(*box.rows)"], ["def f(a):", " return g(*a.b.c)"]],
             [["def f(xs, d, box):", " return g(*xs) + g(1, *box.rows) + g(**d) + [*xs[1:], *list(xs)] + g(a=1, b=2)"]])
 
+    def test_keywords(self):
+        self.check(
+            form_rules.odd_keywords,
+            [["def f(xs):", " return len(obj=xs)"], ["def f(x):", " return int(x, base=2)"], ["def f(x):", " return x.split(sep='a')"], ["def f(x):", " return x.told(a=1)"],
+             ["def f(x):", " return sorted(x, start=1)"], ["def f(x):", " return g(self=x)"], ["class Box:", " def find(self, x):", "  pass", "def f(box):", " return box.find(x=1)"]],
+            [["class Box:", " def told(self, a):", "  pass", "def f(box):", " return box.told(a=1) + g(b=2) + min([box], key=len, default=None) + sorted(box, reverse=True)"]])
+
+    def test_methods_that_are_not_called(self):
+        box = ["class Box:", " MANY = 1", " def told(self):", "  pass", " @property", " def size(self):", "  return 1", " @staticmethod", " def made():", "  pass"]
+        self.check(
+            form_rules.methods_as_values,
+            [[*box, "def f(box):", " return box.told"], [*box, "def f(box):", " return Box.told(box)"], [*box, "def f(box):", " return box.size()"], [*box, "def f(box):", " return Box.size"],
+             [*box, "def f(box):", " return g(Box.made)"], [*box, "def f(box):", " return box.MANY()"], ["def f(xs):", " add = xs.append"]],
+            [[*box, "def f(box, xs):", " xs.append(Box.made() + box.made() + Box.MANY + box.size)", " return box.told()"]])
+
     def test_strings(self):
         self.check(
             form_rules.odd_strings,
