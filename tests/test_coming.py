@@ -10,7 +10,9 @@ from support import BureauCase
 from pagebureau.base.errors import NoMark, NotFree, NotStraight, TooLarge
 from pagebureau.base.marks import Marks
 from pagebureau.base.rows import Book
+from pagebureau.flows.figures import Report
 from pagebureau.flows.pipelines import Pipeline
+from pagebureau.judge.alike import parting
 from pagebureau.judge.coming import coming, coming_book, is_free, parting_sheets, unit_book
 from pagebureau.judge.letters import pipeline_effort
 from pagebureau.shares.comparing import parting_table, same_formula
@@ -91,6 +93,9 @@ class ComingTest(BureauCase):
             units = Marks("".join(mark for mark in ALL if unit_book(pipeline, mark) is not None))
             self.assertTrue(units <= marks)
             self.assertIs(units == marks, is_free(pipeline), pipeline.text())
+            for mark in "ad":
+                # The number of the rows of the mark is alike to 0 if it does not come.
+                self.assertEqual(parting(Report(pipeline, "count", Marks(mark)), Report.read("count -")), coming_book(pipeline, mark))
             bound = list(marks - units)
             if bound:
                 self.assert_raises(NotFree, (bound[0],), parting_sheets, pipeline, shared("a", "a"), shared("a", "ab"))
@@ -109,6 +114,8 @@ class ComingTest(BureauCase):
             self.assertEqual((marks, free), (coming(pipeline).text(), is_free(pipeline)), text)
             for call in (coming, is_free):
                 self.assertLess(calls_in(call, pipeline), 6000, text)
+            for call in (coming_book, unit_book):
+                self.assertLess(max(calls_in(call, pipeline, mark) for mark in ALL), 12000, text)
             self.assertLess(calls_in(parting_sheets, pipeline, one, other), 16000, text)
 
     def test_told_cases(self):

@@ -2,10 +2,7 @@
 
 from pagebureau.base.errors import NotFree
 from pagebureau.base.marks import Marks, check_mark
-from pagebureau.flows.figures import Report
-from pagebureau.judge.fronts import report_machine
-from pagebureau.judge.growth import first_book
-from pagebureau.judge.letters import book_of_rows, check_effort, letters_of, pipeline_effort
+from pagebureau.judge.letters import book_of_rows, check_effort, pipeline_effort
 from pagebureau.judge.machines import representatives
 from pagebureau.judge.outlets import Outlet
 from pagebureau.judge.webs import Web
@@ -18,11 +15,64 @@ def _check_pipeline(pipeline):
     check_effort(pipeline_effort(pipeline))
 
 
-def _first_with(pipeline, mark):
-    """A book with as few rows as possible of which a row of a mark is left, None if there is none."""
-    report = Report(pipeline, "count", Marks(mark))
-    machine = report_machine(report, representatives([pipeline], [report.marks]))
-    return first_book(machine, letters_of(report), lambda results: results[0] != 0)
+class RowSearch:
+    """A search for a book with as few rows as possible of which a row of a mark is left.
+
+    If `is_alone` is True, no other row may be left. A stop is a pair of a place in the web of
+    the pipeline, and whether the row has come. Stops that the same rows lead to are looked at
+    together, so that of all such books the one whose rows come first is found.
+    """
+
+    def __init__(self, pipeline, mark, is_alone):
+        known = representatives([pipeline], [Marks(mark)])
+        self._web = Web(pipeline, known, [0])
+        self._mark = mark
+        self._is_alone = is_alone
+        marks = sorted(set(list(known.values())))
+        self._rows = [(day, each, amount) for day in "+=" for each in marks for amount in (None, 0)]
+        start = (self._web.first_place, False)
+        # Pairs of a list of rows, and of the stops that it leads to and no list before it does.
+        self._groups = [([], [start])]
+        self._known_stops = {start: True}
+
+    def _come(self, has_come, signs):
+        """Whether the row has come when signs have come out; None if a row has that may not be left."""
+        marks = [sign[0] for sign in signs if sign[0] != NEW_DAY]
+        if not self._is_alone:
+            return has_come or self._mark in marks
+        if not marks:
+            return has_come
+        return True if marks == [self._mark] and not has_come else None
+
+    def _stops_behind(self, stops, row):
+        """The list of the new stops to which a row leads from some stops."""
+        found = []
+        for place, has_come in stops:
+            for after, signs in self._web.after(place, row):
+                stop = (after, self._come(has_come, signs))
+                if stop[1] is not None and stop not in self._known_stops:
+                    self._known_stops[stop] = True
+                    found.append(stop)
+        return found
+
+    def _is_end(self, stops):
+        ends = [self._come(has_come, signs) for place, has_come in stops for signs in self._web.ends(place)]
+        return any([has_come is True for has_come in ends])
+
+    def shortest(self):
+        """The book that is searched for, None if there is none."""
+        at = 0
+        while at < len(self._groups):
+            rows, stops = self._groups[at]
+            at = at + 1
+            if self._is_end(stops):
+                return book_of_rows(rows)
+            # A book begins a day with its first row, like one with `=`.
+            for row in self._rows:
+                behind = self._stops_behind(stops, row)
+                if behind:
+                    self._groups.append(([*rows, row], behind))
+        return None
 
 
 def coming(pipeline):
@@ -33,72 +83,13 @@ def coming(pipeline):
 def coming_book(pipeline, mark):
     check_mark(mark)
     _check_pipeline(pipeline)
-    return _first_with(pipeline, mark)
-
-
-class UnitSearch:
-    """A search for the shortest book of which one row is left, with a wanted mark.
-
-    A stop is a pair of a place in the web of the pipeline, and whether the row has come.
-    """
-
-    def __init__(self, pipeline, mark):
-        known = representatives([pipeline], [Marks(mark)])
-        self._web = Web(pipeline, known, [0])
-        self._mark = mark
-        marks = sorted(set(list(known.values())))
-        self._rows = [(day, each, amount) for day in "+=" for each in marks for amount in (None, 0)]
-        start = (self._web.first_place, False)
-        self._stops = [start]
-        # For each stop the one before it, and the row on the way from there.
-        self._before = {start: None}
-
-    def _has_come(self, has_come, signs):
-        """Whether the row has come when signs have come out; None if other rows have."""
-        rows = [sign[0] for sign in signs if sign[0] != NEW_DAY]
-        if not rows:
-            return has_come
-        return True if rows == [self._mark] and not has_come else None
-
-    def _go_on(self, stop):
-        place, has_come = stop
-        # A book begins a day with its first row, like one with `=`.
-        for row in self._rows:
-            for after, signs in self._web.after(place, row):
-                after_row = self._has_come(has_come, signs)
-                found = (after, after_row)
-                if after_row is not None and found not in self._before:
-                    self._before[found] = (stop, row)
-                    self._stops.append(found)
-
-    def _is_end(self, stop):
-        place, has_come = stop
-        return any([self._has_come(has_come, signs) is True for signs in self._web.ends(place)])
-
-    def _book_to(self, stop):
-        rows = []
-        way = self._before[stop]
-        while way is not None:
-            stop, row = way
-            rows.append(row)
-            way = self._before[stop]
-        return book_of_rows(rows[::-1])
-
-    def shortest(self):
-        """The book that is searched for, None if there is none."""
-        at = 0
-        while at < len(self._stops):
-            if self._is_end(self._stops[at]):
-                return self._book_to(self._stops[at])
-            self._go_on(self._stops[at])
-            at = at + 1
-        return None
+    return RowSearch(pipeline, mark, False).shortest()
 
 
 def unit_book(pipeline, mark):
     check_mark(mark)
     _check_pipeline(pipeline)
-    return UnitSearch(pipeline, mark).shortest()
+    return RowSearch(pipeline, mark, True).shortest()
 
 
 def is_free(pipeline):
