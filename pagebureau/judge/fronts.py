@@ -288,4 +288,7 @@ def report_machine(report, known):
 def report_machines(reports):
     """For some reports the machines of each, over the same marks."""
     known = representatives([report.pipeline for report in reports], [report.marks for report in reports])
-    return [report_machine(report, known) for report in reports]
+    # Equal reports have one machine.
+    by_text = {report.text(): report for report in reports}
+    machines = {text: report_machine(by_text[text], known) for text in by_text}
+    return [machines[report.text()] for report in reports]

@@ -5,10 +5,10 @@ and U and C those of the other one. Where B and C are not 0, the values differ e
 T * C is not U * B.
 """
 
-from pagebureau.judge.fronts import report_machine, with_steps
+from pagebureau.judge.fronts import report_machines, with_steps
 from pagebureau.judge.growth import Growth, check_question, first_book
 from pagebureau.judge.letters import book_of_letters, letters_of
-from pagebureau.judge.machines import absence_machine, joined, multiplied, representatives
+from pagebureau.judge.machines import absence_machine, joined, multiplied
 
 
 class Contest:
@@ -17,10 +17,11 @@ class Contest:
     def __init__(self, first, second):
         reports = [first.top, first.bottom, second.top, second.bottom]
         self._letters = letters_of(*reports)
-        self._known = representatives([report.pipeline for report in reports], [report.marks for report in reports])
         self._tops = [first.top, second.top]
         self._bottoms = [first.bottom, second.bottom]
-        self._machines = [report_machine(report, self._known) for report in reports]
+        self._machines = report_machines(reports)
+        # The machines that tell 1 on the books on which a bottom is 0, by the numbers of the rates.
+        self._absences = {}
 
     def differ(self, books):
         """Whether the values of the rates differ on some books."""
@@ -39,12 +40,17 @@ class Contest:
         """A book on which the figure of a report is not 0, None if there is none."""
         return self._first_book(self._machines[at])
 
+    def _absence(self, rate):
+        """The machine that tells 1 on the books on which the bottom of a rate is 0, and 0 on others."""
+        if rate not in self._absences:
+            bottom = self._bottoms[rate]
+            absence = absence_machine(self._machines[0].known, bottom.word, bottom.marks)
+            self._absences[rate] = with_steps(bottom.pipeline, absence)
+        return self._absences[rate]
+
     def book_without(self, rate, at):
         """A book on which the bottom of a rate is 0, and the figure of a report is not, None if there is none."""
-        bottom = self._bottoms[rate]
-        absence = absence_machine(self._known, bottom.word, bottom.marks)
-        level = with_steps(bottom.pipeline, absence)
-        return self._first_book(multiplied(level, self._machines[at]))
+        return self._first_book(multiplied(self._absence(rate), self._machines[at]))
 
     def crossing(self):
         """Two books on which T * C - U * B, taken crosswise, is not 0, None if there are none."""
